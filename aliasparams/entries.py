@@ -1,0 +1,107 @@
+"""Whether any value is an entry that may stand behind others."""
+
+from aliasparams.climbing import bases_of
+from aliasparams.errors import TooLarge
+from aliasparams.forms import LIMIT
+from aliasparams.misfits import first_misfit, parameters_of
+from aliasparams.names import is_name
+from aliasparams.parts import all_parts
+from aliasparams.sizes import unjoined_size
+from aliasparams.terms import is_term, size
+
+_MOST_PARAMETERS = 3
+_MOST_CORE_CLASSES = 4
+_MOST_IN_BOUND = 4
+_LARGEST_TERM = 20
+
+
+def is_entry(facts, value):
+    """Whether any value is an entry that may stand behind those of the facts."""
+    if not isinstance(value, tuple) or len(value) != 4:
+        return False
+    kind, name, inner, last = value
+    if not is_name(name) or name in facts.by_name:
+        return False
+    if kind == "parameter":
+        return _is_kind_with_bound(facts, inner, last)
+    if kind not in ("class", "alias") or not _are_parameters(facts, inner):
+        return False
+    return _is_base(facts, inner, last) if kind == "class" else _is_body(facts, inner, last)
+
+
+def is_bound(facts, value):
+    """Whether any value is an ascending tuple of one to four core classes."""
+    if not isinstance(value, tuple) or not 1 <= len(value) <= _MOST_IN_BOUND:
+        return False
+    if not all([is_name(name) and name in facts.lines for name in value]):
+        return False
+    return all([one < other for one, other in zip(value, value[1:])])
+
+
+def _is_kind_with_bound(facts, kind, bound):
+    if bound is None:
+        return kind in ("plain", "variadic", "signature")
+    return kind == "plain" and is_bound(facts, bound)
+
+
+def _are_parameters(facts, names):
+    """Whether any value is a tuple that may be the parameters of an entry."""
+    if not isinstance(names, tuple) or len(names) > _MOST_PARAMETERS:
+        return False
+    if not all([is_name(name) and name in facts.by_name for name in names]):
+        return False
+    entries = [facts.by_name[name] for name in names]
+    if not all([entry[0] == "parameter" for entry in entries]):
+        return False
+    variadic = [entry for entry in entries if entry[2] == "variadic"]
+    return len(set(names)) == len(names) and len(variadic) < 2
+
+
+def _is_base(facts, parameters, base):
+    """Whether any value may be the base of a class with these parameters."""
+    if base is not None and not _is_use_with_bases(facts, parameters, base):
+        return False
+    is_core = facts.line_above(parameters, base) is not None
+    return not is_core or len(facts.lines) < _MOST_CORE_CLASSES
+
+
+def _is_use_with_bases(facts, parameters, value):
+    """Whether any value is a use of a class that may be a base, with all above it."""
+    if not _is_small_term(facts, parameters, value):
+        return False
+    return _is_use_of_class(facts, value) and _has_small_bases(facts, value)
+
+
+def _is_use_of_class(facts, term):
+    return term[0] in facts.by_name and facts.by_name[term[0]][0] == "class"
+
+
+def _has_small_bases(facts, base):
+    try:
+        bases_of(facts, base)
+    except TooLarge:
+        return False
+    return True
+
+
+def _is_body(facts, parameters, body):
+    """Whether any value may be the body of an alias with these parameters."""
+    if not _is_small_term(facts, parameters, body):
+        return False
+    # The body may be small although a term in it is not: an alias may leave
+    # out a value.
+    terms = [part for part in all_parts(body) if _is_term_part(part)]
+    return all([unjoined_size(facts.weights, part, {}) <= LIMIT for part in terms])
+
+
+def _is_term_part(part):
+    """Whether a part is a term: not a row, inputs, another item or a tail."""
+    return part[0] not in ("[]", "()", "*", "**", "...")
+
+
+def _is_small_term(facts, parameters, value):
+    """Whether any value is a fitting term of at most twenty nodes with no other
+    parameters than these."""
+    if not is_term(value) or size(value) > _LARGEST_TERM or first_misfit(facts, value) is not None:
+        return False
+    return all([name in parameters for name in parameters_of(facts, value)])

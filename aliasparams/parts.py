@@ -1,0 +1,62 @@
+"""The parts of terms, and ways through them.
+
+A part is a term, a row, inputs or an item, as DOC.md writes them, or a tail.
+A tail is written ("**", tail) here, so that each part is a tuple and its
+first item tells what it is.
+
+Nothing here calls itself: a term may be nested deeper than Python allows
+calls to be.
+"""
+
+
+def parts_of(part):
+    """The tuple of the parts directly in a part, in the order of the text."""
+    head = part[0]
+    if head in ("*", "**"):
+        return ()
+    if head in ("->", "..."):
+        return part[1:]
+    if head == "()" and part[2] is not None:
+        return part[1] + (("**", part[2]),)
+    return part[1]
+
+
+def all_parts(top):
+    """The list of all parts of a part, itself first, in the order of the text."""
+    found = []
+    waiting = [top]
+    while waiting:
+        part = waiting.pop()
+        found.append(part)
+        waiting.extend(parts_of(part)[::-1])
+    return found
+
+
+def folded(top, finish):
+    """What finish makes of a part.
+
+    finish(part, results) is called for each part, the inner ones first, with
+    the list of its results for the parts directly in this one.
+    """
+    parts = [top]
+    starts = [1]
+    while len(starts) <= len(parts):
+        parts.extend(parts_of(parts[len(starts) - 1]))
+        starts.append(len(parts))
+    results = [None] * len(parts)
+    for at in reversed(range(len(parts))):
+        results[at] = finish(parts[at], results[starts[at]:starts[at + 1]])
+    return results[0]
+
+
+def is_node(part):
+    """Whether a part is counted: all are but rows and inputs."""
+    return part[0] not in ("[]", "()")
+
+
+def name_in(part):
+    """The name of a use, of an item ("*", name) or of a tail, otherwise None."""
+    head = part[0]
+    if head in ("*", "**"):
+        return None if part[1] == "..." else part[1]
+    return None if head in ("->", "|", "[]", "()", "...") else head
