@@ -5,8 +5,7 @@ from aliasparams.errors import TooLarge
 from aliasparams.forms import LIMIT
 from aliasparams.misfits import first_misfit, parameters_of
 from aliasparams.names import is_name
-from aliasparams.parts import all_parts
-from aliasparams.sizes import unjoined_size
+from aliasparams.sizes import largest_full_size
 from aliasparams.terms import is_term, size
 
 _MOST_PARAMETERS = 3
@@ -88,15 +87,7 @@ def _is_body(facts, parameters, body):
     """Whether any value may be the body of an alias with these parameters."""
     if not _is_small_term(facts, parameters, body):
         return False
-    # The body may be small although a term in it is not: an alias may leave
-    # out a value.
-    terms = [part for part in all_parts(body) if _is_term_part(part)]
-    return all([unjoined_size(facts.weights, part, {}) <= LIMIT for part in terms])
-
-
-def _is_term_part(part):
-    """Whether a part is a term: not a row, inputs, another item or a tail."""
-    return part[0] not in ("[]", "()", "*", "**", "...")
+    return largest_full_size(facts.weights, body) <= LIMIT
 
 
 def _is_small_term(facts, parameters, value):

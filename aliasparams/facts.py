@@ -1,5 +1,6 @@
 """What a book says of its names, ready for the questions that are asked often."""
 
+from aliasparams.expanding import expanded_term
 from aliasparams.heads import heads_of
 from aliasparams.sizes import weight_of
 
@@ -14,6 +15,8 @@ class Facts:
         self.lines = {}
         # Of each alias the heads of its body, its own parameters among them.
         self.body_heads = {}
+        # Of each alias the expanded body.
+        self.bodies = {}
         # Of each alias how the full size of a use follows from its values.
         self.weights = {}
 
@@ -27,6 +30,7 @@ class Facts:
                 self.lines[name] = (name, *above)
         if kind == "alias":
             self.body_heads[name] = heads_of(self, last)
+            self.bodies[name] = expanded_term(self, last)
             self.weights[name] = weight_of(self.weights, parameters, last)
 
     def line_above(self, parameters, base):

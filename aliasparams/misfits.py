@@ -1,16 +1,32 @@
 """Misfits of nodes, and the parameters of terms."""
 
+from aliasparams.errors import NoTerm
 from aliasparams.heads import keeps_bound
 from aliasparams.parts import all_parts, folded, is_node, name_in, parts_of
+from aliasparams.terms import is_term
 
 # What a value for a parameter of each kind begins with; no other value does.
 _BEGINNINGS = {"variadic": "[]", "signature": "()"}
 
 
+def check_term(facts, value):
+    """Raises NoTerm if any value is not a fitting term."""
+    found = misfit_of_term(facts, value)
+    if found is not None:
+        raise NoTerm(found[0], found[1])
+
+
+def misfit_of_term(facts, value):
+    """The first misfit of a term. Raises NoTerm for any other value."""
+    if not is_term(value):
+        raise NoTerm(-1, "form")
+    return first_misfit(facts, value)
+
+
 def first_misfit(facts, value):
     """None, or the number and the misfit of the first node that has one.
 
-    The value is a term, a row or inputs.
+    The value is a term, a row, inputs or an item.
     """
     return folded(value, lambda part, told: _checked(facts, part, told))[1]
 

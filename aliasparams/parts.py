@@ -54,6 +54,11 @@ def is_node(part):
     return part[0] not in ("[]", "()")
 
 
+def is_term_part(part):
+    """Whether a part is a term: not a row, inputs, another item or a tail."""
+    return part[0] not in ("[]", "()", "*", "**", "...")
+
+
 def name_in(part):
     """The name of a use, of an item ("*", name) or of a tail, otherwise None."""
     head = part[0]

@@ -15,10 +15,10 @@ def replaced(value, mapping):
     sizes = {name: size(mapping[name]) for name in mapping}
     if unjoined_size({}, value, sizes) > LIMIT:
         raise TooLarge(LIMIT)
-    return folded(value, lambda part, results: _rebuilt(part, results, mapping))
+    return folded(value, lambda part, results: rebuilt(part, results, mapping))
 
 
-def _rebuilt(part, results, mapping):
+def rebuilt(part, results, mapping):
     """A part with the results for its parts; for an item ("*", name) or a tail
     the items and the tail that take its place."""
     head = part[0]

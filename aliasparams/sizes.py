@@ -1,6 +1,6 @@
 """Sizes that terms would have, worked out without making these terms."""
 
-from aliasparams.parts import folded, is_node, name_in
+from aliasparams.parts import all_parts, folded, is_node, is_term_part, name_in
 
 
 def unjoined_size(weights, value, sizes):
@@ -10,6 +10,15 @@ def unjoined_size(weights, value, sizes):
     the value of each parameter that is substituted.
     """
     return folded(value, lambda part, inner: _weighed(weights, part, inner, sizes))
+
+
+def largest_full_size(weights, term):
+    """The largest full size of a term and of the terms in it.
+
+    One of those may be larger than the whole: an alias may leave out a value.
+    """
+    terms = [part for part in all_parts(term) if is_term_part(part)]
+    return max([unjoined_size(weights, part, {}) for part in terms])
 
 
 def weight_of(weights, parameters, body):

@@ -11,7 +11,7 @@ from aliasparams.sizes import unjoined_size
 from aliasparams.terms import is_term, size
 from tests import reference
 from tests.samples import (
-    ENTRIES, I, JUNK, L, Maker, T, WIDE, arrow, book, deep, inputs, many, row, star, union, use, wide, wrapped)
+    ENTRIES, I, JUNK, L, Maker, T, WIDE, arrow, book, changed_everywhere, deep, inputs, many, row, star, union, use, wide, wrapped)
 
 S = use("str")
 N = use("n")
@@ -257,6 +257,56 @@ class Sizes(Checks):
                 self.assertEqual(unjoined_size({}, term, sizes), len(reference.nodes(flat)))
                 self.assertEqual(replaced(term, mapping), reference.put(term, mapping))
                 self.assertIs(is_term(replaced(term, mapping)), True)
+
+
+class Replaced(unittest.TestCase):
+    """Entries with a part replaced, left out or doubled, against the reference."""
+
+    EXTRA = [
+        ("parameter", "x", "plain", ("bool", "int", "str")), ("class", "pack", ("n", "ts"), use("tab", N, row(star("ts")))),
+        ("class", "top", ("p",), use("task", inputs(I, tail="p"), use("same", I))),
+        ("alias", "sum", ("t", "p"), union(T, arrow(inputs(many(L), tail="p"), use("same", T))))]
+
+    def check(self, entries):
+        expected = reference.first_wrong(entries)
+        try:
+            found = Book(entries)
+        except NoBook as error:
+            self.assertEqual(error.position, expected, entries)
+            return
+        self.assertIsNone(expected, entries)
+        self.assertEqual(found.entries(), entries)
+        table = {entry[1]: entry for entry in entries}
+        self.assertEqual(found.core(), sorted(reference.core(table)))
+
+    def test_each_part(self):
+        before = WIDE[:15]
+        for entry in self.EXTRA:
+            for value in changed_everywhere(entry):
+                self.check(before + [value])
+
+    def test_names_replaced(self):
+        names = [entry[1] for entry in WIDE] + ["none", "->", "...", "plain", ""]
+        for at, entry in enumerate(WIDE):
+            for value in self.renamed(entry, names):
+                self.check(WIDE[:at] + [value] + WIDE[at + 1:])
+
+    def renamed(self, value, names):
+        """The value with each of its strings replaced by each of the names."""
+        if isinstance(value, str):
+            yield from names
+        if isinstance(value, tuple):
+            for at, inner in enumerate(value):
+                for other in self.renamed(inner, names):
+                    yield value[:at] + (other,) + value[at + 1:]
+
+    def test_entries_left_out_or_moved(self):
+        for at in range(len(WIDE)):
+            self.check(WIDE[:at] + WIDE[at + 1:])
+            self.check(WIDE[:at] + [WIDE[at]] + WIDE[at:])
+            for other in range(len(WIDE)):
+                entries = WIDE[:at] + WIDE[at + 1:]
+                self.check(entries[:other] + [WIDE[at]] + entries[other:])
 
 
 class Books(unittest.TestCase):
