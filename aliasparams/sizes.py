@@ -1,6 +1,6 @@
 """Sizes that terms would have, worked out without making these terms."""
 
-from aliasparams.parts import all_parts, folded, is_node, is_term_part, name_in
+from aliasparams.parts import folded, is_node, is_term_part, name_in
 
 
 def unjoined_size(weights, value, sizes):
@@ -17,8 +17,7 @@ def largest_full_size(weights, term):
 
     One of those may be larger than the whole: an alias may leave out a value.
     """
-    terms = [part for part in all_parts(term) if is_term_part(part)]
-    return max([unjoined_size(weights, part, {}) for part in terms])
+    return folded(term, lambda part, inner: _size_and_largest(weights, part, inner))[1]
 
 
 def weight_of(weights, parameters, body):
@@ -28,6 +27,14 @@ def weight_of(weights, parameters, body):
     own = unjoined_size(weights, body, absent)
     times = [unjoined_size(weights, body, {**absent, name: 1}) - own for name in parameters]
     return own, tuple(times)
+
+
+def _size_and_largest(weights, part, inner):
+    """The full size of a part, and the largest one of the terms in it, from
+    those of its parts."""
+    own = _weighed(weights, part, [pair[0] for pair in inner], {})
+    largest = max([0, *[pair[1] for pair in inner]])
+    return own, max(own, largest) if is_term_part(part) else largest
 
 
 def _weighed(weights, part, inner, sizes):
