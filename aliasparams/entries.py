@@ -2,11 +2,11 @@
 
 from aliasparams.climbing import bases_of
 from aliasparams.errors import TooLarge
-from aliasparams.forms import LIMIT
+from aliasparams.forms import LIMIT, TERMS, layout_of
 from aliasparams.misfits import first_misfit, parameters_of
 from aliasparams.names import is_name
 from aliasparams.sizes import largest_full_size
-from aliasparams.terms import is_term, size
+from aliasparams.terms import size
 
 _MOST_PARAMETERS = 3
 _MOST_CORE_CLASSES = 4
@@ -66,7 +66,7 @@ def _is_base(facts, parameters, base):
 
 def _is_use_with_bases(facts, parameters, value):
     """Whether any value is a use of a class that may be a base, with all above it."""
-    if not _is_small_term(facts, parameters, value):
+    if not _is_small_term(facts, parameters, layout_of(value, TERMS)):
         return False
     return _is_use_of_class(facts, value) and _has_small_bases(facts, value)
 
@@ -85,14 +85,15 @@ def _has_small_bases(facts, base):
 
 def _is_body(facts, parameters, body):
     """Whether any value may be the body of an alias with these parameters."""
-    if not _is_small_term(facts, parameters, body):
+    layout = layout_of(body, TERMS)
+    if not _is_small_term(facts, parameters, layout):
         return False
-    return largest_full_size(facts.weights, body) <= LIMIT
+    return largest_full_size(facts.weights, layout) <= LIMIT
 
 
-def _is_small_term(facts, parameters, value):
-    """Whether any value is a fitting term of at most twenty nodes with no other
-    parameters than these."""
-    if not is_term(value) or size(value) > _LARGEST_TERM or first_misfit(facts, value) is not None:
+def _is_small_term(facts, parameters, layout):
+    """Whether a layout, or None, is that of a fitting term of at most twenty
+    nodes with no other parameters than these."""
+    if layout is None or size(layout[0][0]) > _LARGEST_TERM or first_misfit(facts, layout) is not None:
         return False
-    return all([name in parameters for name in parameters_of(facts, value)])
+    return all([name in parameters for name in parameters_of(facts, layout[0][0])])

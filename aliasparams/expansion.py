@@ -1,15 +1,14 @@
 """Terms whose aliases are expanded."""
 
-from aliasparams.expanding import expanded_term
+from aliasparams.expanding import expanded_note
 from aliasparams.misfits import check_term
 from aliasparams.sizes import unjoined_size
-from aliasparams.terms import equal
 
 
 def expanded(book, term):
     """The expanded term. Raises NoTerm, TooLarge."""
-    check_term(book.facts, term)
-    return expanded_term(book.facts, term)
+    layout = check_term(book.facts, term)
+    return expanded_note(book.facts, {}, layout)[0]
 
 
 def full_size(book, term):
@@ -17,12 +16,13 @@ def full_size(book, term):
 
     Raises NoTerm.
     """
-    check_term(book.facts, term)
-    return unjoined_size(book.facts.weights, term, {})
+    layout = check_term(book.facts, term)
+    return unjoined_size(book.facts.weights, layout, {})
 
 
 def same(book, one, other):
     """Whether the expanded terms are equal. Raises NoTerm, TooLarge."""
-    check_term(book.facts, one)
-    check_term(book.facts, other)
-    return equal(expanded_term(book.facts, one), expanded_term(book.facts, other))
+    layouts = [check_term(book.facts, one), check_term(book.facts, other)]
+    numbers = {}
+    notes = [expanded_note(book.facts, numbers, layout) for layout in layouts]
+    return notes[0][1] == notes[1][1]

@@ -1,7 +1,8 @@
 """What a book says of its names, ready for the questions that are asked often."""
 
-from aliasparams.expanding import expanded_term
+from aliasparams.expanding import expanded_note
 from aliasparams.heads import heads_of
+from aliasparams.parts import laid_out
 from aliasparams.sizes import weight_of
 
 
@@ -11,11 +12,13 @@ class Facts:
     def __init__(self):
         # Of each name its entry.
         self.by_name = {}
+        # Of each class and alias the entries of its parameters.
+        self.takes = {}
         # Of each core class the names from it up to a class without a base.
         self.lines = {}
         # Of each alias the heads of its body, its own parameters among them.
         self.body_heads = {}
-        # Of each alias the expanded body.
+        # Of each alias its parameters and its expanded body, laid out.
         self.bodies = {}
         # Of each alias how the full size of a use follows from its values.
         self.weights = {}
@@ -24,14 +27,22 @@ class Facts:
         """Take in an entry that may stand behind those noted so far."""
         kind, name, parameters, last = entry
         self.by_name[name] = entry
-        if kind == "class":
+        if kind == "parameter":
+            return
+        self.takes[name] = [self.by_name[inner] for inner in parameters]
+        if kind == "alias":
+            self.note_body(name, parameters, last)
+        else:
             above = self.line_above(parameters, last)
             if above is not None:
                 self.lines[name] = (name, *above)
-        if kind == "alias":
-            self.body_heads[name] = heads_of(self, last)
-            self.bodies[name] = expanded_term(self, last)
-            self.weights[name] = weight_of(self.weights, parameters, last)
+
+    def note_body(self, name, parameters, body):
+        """Take in what follows from the body of an alias."""
+        layout = laid_out(body)
+        self.body_heads[name] = heads_of(self, body)
+        self.bodies[name] = (parameters, laid_out(expanded_note(self, {}, layout)[0]))
+        self.weights[name] = weight_of(self.weights, parameters, layout)
 
     def line_above(self, parameters, base):
         """The core classes above a class with these parameters and this base,

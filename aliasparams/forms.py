@@ -1,86 +1,87 @@
 """Whether any value has the form of a term, a row, inputs or an item."""
 
 from aliasparams.names import is_name
-from aliasparams.parts import folded, is_node
-from aliasparams.spelling import spelled
+from aliasparams.numbering import has_equal_members
+from aliasparams.parts import is_node
 
 LIMIT = 150
 
 # The form of a use is "use", that of any other part its first item.
 TERMS = ("use", "->", "|")
+VALUES = ("use", "->", "|", "[]", "()")
+ARGUMENTS = ("use", "->", "|", "*", "...", "()")
+_MEMBERS = ("use", "->")
+_ITEMS = ("use", "->", "|", "*", "...")
 _INPUTS = ("()",)
-_LENGTHS = {"use": 2, "->": 3, "|": 2, "[]": 2, "()": 3, "*": 2, "...": 2}
+_TAILS = ("**",)
+_LENGTHS = {"->": 3, "|": 2, "[]": 2, "()": 3, "*": 2, "**": 2, "...": 2}
 
-# The forms that the parts directly in a part of each form may have.
-_INSIDE = {
-    "use": ("use", "->", "|", "[]", "()"),
-    "|": ("use", "->"),
-    "[]": ("use", "->", "|", "*", "..."),
-    "()": ("use", "->", "|", "*", "..."),
-}
+
+def layout_of(value, forms):
+    """The layout of any value that is a part of one of these forms, with at most
+    150 nodes; None for any other value."""
+    parts = [value]
+    starts = [1]
+    allowed = [forms]
+    nodes = 0
+    has_union = False
+    while len(starts) <= len(parts):
+        part = parts[len(starts) - 1]
+        form = _form_of(part)
+        if form not in allowed[len(starts) - 1]:
+            return None
+        if form == "use":
+            inner = part[1]
+            inside = [VALUES] * len(inner)
+        else:
+            inner, inside = _inside(form, part)
+            has_union = has_union or form == "|"
+        nodes += 1 if is_node(part) else 0
+        # A value in which parts are shared may be far larger than it looks.
+        if inner is None or nodes > LIMIT:
+            return None
+        parts.extend(inner)
+        allowed.extend(inside)
+        starts.append(len(parts))
+    return None if has_union and has_equal_members((parts, starts)) else (parts, starts)
 
 
 def has_form(value, forms):
     """Whether any value is a part of one of these forms, with at most 150 nodes."""
-    nodes = 0
-    waiting = [(value, forms)]
-    while waiting:
-        part, allowed = waiting.pop()
-        form = _form_of(part)
-        if form not in allowed or not _holds_together(form, part):
-            return False
-        nodes += _own_nodes(part)
-        # A value in which parts are shared may be far larger than it looks.
-        if nodes > LIMIT:
-            return False
-        waiting.extend(_inside(form, part))
-    return folded(value, _checked_key) != ""
+    return layout_of(value, forms) is not None
 
 
 def _form_of(part):
-    """The form that the first item and the length of any value tell, or None."""
-    if not isinstance(part, tuple) or not part or not isinstance(part[0], str):
+    """The form that the first item, the length and the second item of any value
+    tell, or None."""
+    if not isinstance(part, tuple) or len(part) < 2 or not isinstance(part[0], str):
         return None
-    form = "use" if is_name(part[0]) else part[0]
-    return form if len(part) == _LENGTHS.get(form, 0) else None
-
-
-def _holds_together(form, part):
-    """Whether a part is right apart from the parts in it."""
-    if form == "*":
-        return is_name(part[1])
-    # In each other form a tuple of parts, or a part, which is a tuple too.
-    if not isinstance(part[1], tuple):
-        return False
-    if form == "|":
-        return len(part[1]) > 1
-    return form != "()" or _is_tail(part[2])
-
-
-def _is_tail(value):
-    return value is None or value == "..." or is_name(value)
-
-
-def _own_nodes(part):
-    """How many nodes a part has apart from its terms and items."""
-    if part[0] == "()":
-        return 0 if part[2] is None else 1
-    return 1 if is_node(part) else 0
+    if part[0] in _LENGTHS:
+        return part[0] if len(part) == _LENGTHS[part[0]] else None
+    return "use" if len(part) == 2 and isinstance(part[1], tuple) and is_name(part[0]) else None
 
 
 def _inside(form, part):
-    """The values directly in a part, each with the forms that it may have."""
-    if form == "*":
-        return []
+    """The parts directly in a part that is no use, None if it has no such form,
+    and of each one the forms that it may have."""
     if form == "->":
-        return [(part[1], _INPUTS), (part[2], TERMS)]
+        return part[1:], (_INPUTS, TERMS)
     if form == "...":
-        return [(part[1], TERMS)]
-    return [(value, _INSIDE[form]) for value in part[1]]
+        return part[1:], (TERMS,)
+    if form == "**":
+        return (), ()
+    if form == "*":
+        return () if is_name(part[1]) else None, ()
+    items = part[1]
+    if not isinstance(items, tuple):
+        return None, ()
+    if form == "|":
+        return items if len(items) > 1 else None, [_MEMBERS] * len(items)
+    if form == "()" and part[2] is not None:
+        return _with_tail(items, part[2]), [*[_ITEMS] * len(items), _TAILS]
+    return items, [_ITEMS] * len(items)
 
 
-def _checked_key(part, keys):
-    """The key of a part, or the empty string if a union in it has equal members."""
-    if "" in keys or part[0] == "|" and len(set(keys)) < len(keys):
-        return ""
-    return spelled(part, keys)
+def _with_tail(items, tail):
+    """The items and the tail of inputs, None if any value is no tail."""
+    return (*items, ("**", tail)) if tail == "..." or is_name(tail) else None

@@ -1,34 +1,43 @@
 """Misfits of nodes, and the parameters of terms."""
 
 from aliasparams.errors import NoTerm
+from aliasparams.forms import TERMS, layout_of
 from aliasparams.heads import keeps_bound
 from aliasparams.parts import all_parts, folded, is_node, name_in, parts_of
-from aliasparams.terms import is_term
 
-# What a value for a parameter of each kind begins with; no other value does.
-_BEGINNINGS = {"variadic": "[]", "signature": "()"}
+# What a value is for that begins so; every other value is for a plain parameter.
+_KINDS = {"[]": "variadic", "()": "signature"}
+
+# What a parameter is that an item or a tail may name.
+_NAMED = {"*": "variadic", "**": "signature"}
 
 
 def check_term(facts, value):
-    """Raises NoTerm if any value is not a fitting term."""
-    found = misfit_of_term(facts, value)
+    """The layout of a fitting term. Raises NoTerm for any other value."""
+    layout = layout_of(value, TERMS)
+    found = (-1, "form") if layout is None else first_misfit(facts, layout)
     if found is not None:
         raise NoTerm(found[0], found[1])
+    return layout
 
 
 def misfit_of_term(facts, value):
     """The first misfit of a term. Raises NoTerm for any other value."""
-    if not is_term(value):
+    layout = layout_of(value, TERMS)
+    if layout is None:
         raise NoTerm(-1, "form")
-    return first_misfit(facts, value)
+    return first_misfit(facts, layout)
 
 
-def first_misfit(facts, value):
-    """None, or the number and the misfit of the first node that has one.
-
-    The value is a term, a row, inputs or an item.
-    """
-    return folded(value, lambda part, told: _checked(facts, part, told))[1]
+def first_misfit(facts, layout):
+    """None, or the number and the misfit of the first node that has one, of a
+    term, a row, inputs or an item."""
+    parts = layout[0]
+    # Most values fit, and then no node needs a number.
+    if all([_own_misfit(facts, part) is None for part in parts]):
+        if all([_keeps_bounds(facts, part) for part in parts]):
+            return None
+    return folded(layout, lambda part, told: _checked(facts, part, told))[1]
 
 
 def parameters_of(facts, value):
@@ -39,6 +48,11 @@ def parameters_of(facts, value):
         if name is not None and facts.by_name[name][0] == "parameter":
             found[name] = True
     return tuple(found)
+
+
+def kind_of_value(value):
+    """The kind of the parameters that take a term, a row or inputs."""
+    return _KINDS.get(value[0], "plain")
 
 
 def _checked(facts, part, told):
@@ -53,61 +67,48 @@ def _checked(facts, part, told):
 def _inner_misfit(facts, part, told):
     """The first misfit in the parts of a part that has none itself."""
     at = 1 if is_node(part) else 0
-    bounds = _bounds(facts, part)
+    entries = facts.takes.get(part[0])
     for place, inner in enumerate(parts_of(part)):
         many, found = told[place]
         if found is not None:
             return at + found[0], found[1]
-        bound = bounds[place] if bounds else None
-        if bound is not None and not keeps_bound(facts, inner, bound):
+        if entries is not None and not _suits_bound(facts, inner, entries[place]):
             return at, "bound"
         at += many
     return None
 
 
-def _bounds(facts, part):
-    """The bounds of the parameters for the values of a use, [] for other parts."""
-    return [entry[3] for entry in _parameter_entries(facts, part[0])]
+def _keeps_bounds(facts, part):
+    """Whether the values of a part keep the bounds of the parameters for them."""
+    entries = facts.takes.get(part[0], [])
+    return all([_suits_bound(facts, value, entry) for value, entry in zip(part[1], entries)])
 
 
-def _parameter_entries(facts, name):
-    """The entries of the parameters of a class or an alias, [] for other names."""
-    entry = facts.by_name.get(name)
-    if entry is None or entry[0] == "parameter":
-        return []
-    return [facts.by_name[inner] for inner in entry[2]]
+def _suits_bound(facts, value, entry):
+    return entry[3] is None or keeps_bound(facts, value, entry[3])
 
 
 def _own_misfit(facts, part):
     """The first misfit of a node, apart from a bound, or None."""
+    head = part[0]
+    if head in facts.takes:
+        return _misfit_of_values(part[1], facts.takes[head])
     name = name_in(part)
     if name is None:
         return None
     if name not in facts.by_name:
         return "unknown"
-    if not _is_right_kind(part[0], facts.by_name[name]):
+    entry = facts.by_name[name]
+    if entry[0] != "parameter" or entry[2] != _NAMED.get(head, "plain"):
         return "kind"
-    if part[0] in ("*", "**"):
-        return None
-    entries = _parameter_entries(facts, name)
-    if len(part[1]) != len(entries):
+    return "count" if head == name and part[1] else None
+
+
+def _misfit_of_values(values, entries):
+    """The first misfit of a use of a class or an alias, from its parameters."""
+    if len(values) != len(entries):
         return "count"
-    right = [_begins_right(value, entry[2]) for value, entry in zip(part[1], entries)]
-    return None if all(right) else "value"
-
-
-def _is_right_kind(head, entry):
-    """Whether a node that begins so may have the name of an entry."""
-    kind = entry[2] if entry[0] == "parameter" else ""
-    if head == "*":
-        return kind == "variadic"
-    if head == "**":
-        return kind == "signature"
-    return kind in ("", "plain")
-
-
-def _begins_right(value, kind):
-    """Whether a value is a term, a row or inputs, as a parameter takes it."""
-    if kind == "plain":
-        return value[0] not in ("[]", "()")
-    return value[0] == _BEGINNINGS[kind]
+    for value, entry in zip(values, entries):
+        if kind_of_value(value) != entry[2]:
+            return "value"
+    return None

@@ -3,6 +3,6 @@
 
 def is_name(value):
     """Whether any value is a string of one to six letters from a to z."""
-    if not isinstance(value, str) or not 1 <= len(value) <= 6:
+    if not isinstance(value, str) or len(value) > 6:
         return False
-    return all(["a" <= sign <= "z" for sign in value])
+    return value.isascii() and value.isalpha() and value.islower()

@@ -4,6 +4,10 @@ A part is a term, a row, inputs or an item, as DOC.md writes them, or a tail.
 A tail is written ("**", tail) here, so that each part is a tuple and its
 first item tells what it is.
 
+The layout of a part is a pair of lists: all parts in it, each one behind the
+one that it stands in, and where the parts directly in each one begin in the
+first list; they end where those in the next one begin.
+
 Nothing here calls itself: a term may be nested deeper than Python allows
 calls to be.
 """
@@ -32,17 +36,23 @@ def all_parts(top):
     return found
 
 
-def folded(top, finish):
-    """What finish makes of a part.
-
-    finish(part, results) is called for each part, the inner ones first, with
-    the list of its results for the parts directly in this one.
-    """
+def laid_out(top):
+    """The layout of a part."""
     parts = [top]
     starts = [1]
     while len(starts) <= len(parts):
         parts.extend(parts_of(parts[len(starts) - 1]))
         starts.append(len(parts))
+    return parts, starts
+
+
+def folded(layout, finish):
+    """What finish makes of a part that is laid out.
+
+    finish(part, results) is called for each part, the inner ones first, with
+    the list of its results for the parts directly in this one.
+    """
+    parts, starts = layout
     results = [None] * len(parts)
     for at in reversed(range(len(parts))):
         results[at] = finish(parts[at], results[starts[at]:starts[at + 1]])

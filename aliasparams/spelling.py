@@ -1,4 +1,4 @@
-"""Keys: strings that are the same exactly for equal parts."""
+"""Parts as strings."""
 
 
 def spelled(part, keys):
@@ -12,3 +12,12 @@ def spelled(part, keys):
         return head + part[1]
     inside = sorted(keys) if head == "|" else keys
     return head + "[" + ",".join(inside) + "]"
+
+
+def lettered(part, texts):
+    """The letters of a part, from those of the parts directly in it: the same
+    exactly for parts that are written alike."""
+    head = part[0]
+    if head in ("*", "**"):
+        return head + part[1]
+    return head + "[" + ",".join(texts) + "]"

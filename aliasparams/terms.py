@@ -1,7 +1,9 @@
 """Terms: uses of names, signatures and unions."""
 
 from aliasparams.forms import TERMS, has_form
-from aliasparams.parts import all_parts, folded, is_node
+from aliasparams.noting import joined_notes, noted
+from aliasparams.numbering import numbered
+from aliasparams.parts import all_parts, folded, is_node, laid_out
 from aliasparams.spelling import spelled
 
 
@@ -17,26 +19,19 @@ def size(term):
 
 def equal(one, other):
     """Whether two terms differ at most in the order of members of unions."""
-    return key(one) == key(other)
+    numbers = {}
+    return numbered(numbers, laid_out(one))[0] == numbered(numbers, laid_out(other))[0]
 
 
 def key(term):
     """A string that two terms share exactly if they are equal."""
-    return folded(term, spelled)
+    return folded(laid_out(term), spelled)
 
 
 def joined(*terms):
     """The term with the members of all terms, each one once."""
-    members = {}
-    for term in terms:
-        for member in _members(term):
-            members.setdefault(key(member), member)
-    found = tuple(members.values())
-    return found[0] if len(found) == 1 else ("|", found)
-
-
-def _members(term):
-    return term[1] if term[0] == "|" else (term,)
+    numbers = {}
+    return joined_notes(numbers, [noted(numbers, laid_out(term), {}) for term in terms])[0]
 
 
 def origin(term):

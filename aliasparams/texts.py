@@ -1,17 +1,16 @@
 """Terms as texts, and texts read as terms."""
 
 from aliasparams.errors import NoText
-from aliasparams.forms import TERMS, has_form
+from aliasparams.forms import ARGUMENTS, TERMS, layout_of
 from aliasparams.misfits import first_misfit
 from aliasparams.parsing import parsed
+from aliasparams.parts import laid_out
 from aliasparams.writing import written
-
-_ARGUMENTS = ("use", "->", "|", "*", "...", "()")
 
 
 def show(term):
     """The text of a term."""
-    return written(term)
+    return written(laid_out(term))
 
 
 def read(book, text):
@@ -22,14 +21,14 @@ def read(book, text):
 def read_argument(book, text):
     """The fitting term, item or inputs with this text. Raises NoText for any
     other value."""
-    return _read_as(book, text, _ARGUMENTS)
+    return _read_as(book, text, ARGUMENTS)
 
 
 def _read_as(book, text, forms):
     if not isinstance(text, str):
         raise NoText(text)
     found = parsed(book.facts, text)
-    fits = has_form(found, forms) and first_misfit(book.facts, found) is None
-    if not fits or written(found) != text:
+    layout = layout_of(found, forms)
+    if layout is None or first_misfit(book.facts, layout) is not None or written(layout) != text:
         raise NoText(text)
     return found

@@ -3,9 +3,9 @@
 from aliasparams.parts import folded, parts_of
 
 
-def written(value):
-    """The text of a term or an item, or of inputs as a value."""
-    return _as_value(value, folded(value, _text_of))
+def written(layout):
+    """The text of a term or an item, or of inputs as a value, that is laid out."""
+    return _as_value(layout[0][0], folded(layout, _text_of))
 
 
 def _text_of(part, texts):

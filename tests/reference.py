@@ -3,6 +3,7 @@
 Slow, and good for shallow values only: what the tests compare the package with.
 """
 
+import itertools
 import re
 
 
@@ -461,3 +462,274 @@ def parameters(table, term):
         if table.get(name, "?")[0] == "parameter":
             found.append(name)
     return found
+
+
+class Wrong(Exception):
+    """What a call must be refused for."""
+
+
+def is_argument_form(value):
+    if is_tuple(value, 2) and value[0] == "...":
+        return is_term(value[1])
+    if is_inputs(value):
+        return len(nodes(value)) <= 150
+    return is_term(value) or is_tuple(value, 2) and value[0] == "*" and is_name(value[1])
+
+
+def has_misfit(table, value):
+    """Whether a value, an item or an argument has a misfit in it."""
+    # Each of them fits exactly if a term around it does.
+    table = table | {"zx": ("parameter", "zx", "variadic", None), "zy": ("class", "zy", ("zx",), None)}
+    if value[0] == "()":
+        return misfit(table, ("->", value, ("zy", (("[]", ()),)))) is not None
+    if value[0] in ("[]", "*", "..."):
+        row = value if value[0] == "[]" else ("[]", (value,))
+        return misfit(table, ("zy", (row,))) is not None
+    return misfit(table, value) is not None
+
+
+def kinds_of_argument(value):
+    if value[0] == "()":
+        return ["signature"]
+    return ["variadic"] if value[0] in ("*", "...") else ["plain", "variadic"]
+
+
+def reason_of(table, value, name, has_form, kinds):
+    """The first reason for which a value is none for a parameter, or None."""
+    if not has_form(value):
+        return "form"
+    if table[name][2] not in kinds(value):
+        return "kind"
+    if has_misfit(table, value):
+        return "misfit"
+    if table[name][3] is not None and not is_within(table, value, table[name][3]):
+        return "bound"
+    return None
+
+
+def matched(table, names, row):
+    """What matched returns; raises Wrong with what the error tells."""
+    kinds = [table[name][2] for name in names]
+    needed = len(names) - ("variadic" in kinds)
+    if len(row) < needed or len(row) > needed and "variadic" not in kinds:
+        raise Wrong("count", len(row), needed)
+    owners = list(names)
+    if "variadic" in kinds:
+        at = kinds.index("variadic")
+        owners[at:at + 1] = [names[at]] * (len(row) - needed)
+    for position, (name, value) in enumerate(zip(owners, row)):
+        reason = reason_of(table, value, name, is_argument_form, kinds_of_argument)
+        if reason is not None:
+            raise Wrong("argument", position, reason)
+    found = {}
+    for name, kind in zip(names, kinds):
+        given = tuple(value for owner, value in zip(owners, row) if owner == name)
+        found[name] = ("[]", given) if kind == "variadic" else given[0]
+    if any(len(nodes(value)) > 150 for value in found.values()):
+        raise Wrong("large", 150)
+    return found
+
+
+def check_mapping(table, mapping):
+    for name in mapping:
+        if not is_name(name) or table.get(name, "?")[0] != "parameter":
+            raise Wrong("name", name)
+    form = lambda value: is_value(value) and len(nodes(value)) <= 150
+    kind = lambda value: [{"[]": "variadic", "()": "signature"}.get(value[0], "plain")]
+    for name, value in mapping.items():
+        reason = reason_of(table, value, name, form, kind)
+        if reason is not None:
+            raise Wrong("argument", name, reason)
+
+
+def put_within_limit(part, mapping):
+    if len(nodes(put(part, mapping, unjoined))) > 150:
+        raise Wrong("large", 150)
+    return put(part, mapping)
+
+
+def check_term(table, term):
+    if not is_term(term):
+        raise Wrong("term", -1, "form")
+    found = misfit(table, term)
+    if found is not None:
+        raise Wrong("term", *found)
+
+
+def substituted(table, term, mapping):
+    check_term(table, term)
+    check_mapping(table, mapping)
+    return put_within_limit(term, mapping)
+
+
+def ordered_parameters(table, term):
+    return list(dict.fromkeys(parameters(table, term)))
+
+
+def applied(table, term, row):
+    check_term(table, term)
+    return put_within_limit(term, matched(table, ordered_parameters(table, term), row))
+
+
+def composed(table, first, second):
+    check_mapping(table, first)
+    check_mapping(table, second)
+    found = {name: put_within_limit(first[name], second) for name in first}
+    return found | {name: second[name] for name in second if name not in first}
+
+
+def outside_unions(part):
+    """The parts of a part that stand in no union."""
+    found = [part]
+    if part[0] != "|":
+        for inner in [] if isinstance(part, str) else below(part):
+            found += outside_unions(inner) if not isinstance(inner, str) else [inner]
+    return found
+
+
+def is_solvable(table, term):
+    outside = outside_unions(term)
+    names = [part if isinstance(part, str) else part[1] if part[0] == "*" else part[0] for part in outside]
+    if not all(name in names for name in parameters(table, term)):
+        return False
+    for part in outside:
+        if part[0] in ("[]", "()"):
+            stars = [item for item in part[1] if item[0] == "*"]
+            tails = [part[2]] if part[0] == "()" and part[2] not in (None, "...") else []
+            if len(stars) + len(tails) > 1:
+                return False
+    return True
+
+
+def solved(table, term, result):
+    """The only mapping that may give this result, found by trying the parts of the result."""
+    names = ordered_parameters(table, term)
+    pools = {"plain": [], "variadic": [], "signature": []}
+    for part in all_parts(result):
+        if part[0] in ("[]", "()"):
+            for start, end in itertools.combinations_with_replacement(range(len(part[1]) + 1), 2):
+                pools["variadic"].append(("[]", part[1][start:end]))
+            if part[0] == "()":
+                pools["signature"] += [("()", part[1][at:], part[2]) for at in range(len(part[1]) + 1)]
+        elif part[0] not in ("*", "..."):
+            pools["plain"].append(part)
+    for values in itertools.product(*[list(dict.fromkeys(pools[table[name][2]])) for name in names]):
+        mapping = dict(zip(names, values))
+        try:
+            if canonical(substituted(table, term, mapping)) == canonical(result):
+                return mapping
+        except Wrong:
+            pass
+    return None
+
+
+def all_parts(part):
+    """The parts of a part apart from tails, rows and inputs too."""
+    found = [part]
+    for inner in below(part):
+        if not isinstance(inner, str):
+            found += all_parts(inner)
+    return found
+
+
+class Closed:
+    """The closed values of a book by their sizes, in sets of their own for each question."""
+
+    def __init__(self, table):
+        self.table = table
+        self.known = {}
+
+    def kept(self, kind, many):
+        if (kind, many) not in self.known:
+            self.known[kind, many] = list(getattr(self, kind)(many)) if many >= 0 else []
+        return self.known[kind, many]
+
+    def values(self, name, many):
+        """The closed values of a size that suit a parameter."""
+        kind, bound = self.table[name][2:]
+        if kind != "plain":
+            return self.kept({"variadic": "rows", "signature": "inputs"}[kind], many)
+        return [term for term in self.kept("terms", many) if bound is None or is_within(self.table, term, bound)]
+
+    def terms(self, many):
+        return self.kept("singles", many) + self.kept("unions", many)
+
+    def singles(self, many):
+        found = []
+        for entry in self.table.values():
+            if entry[0] == "class":
+                for sizes in itertools.product(range(many), repeat=len(entry[2])):
+                    if sum(sizes) == many - 1:
+                        found += [(entry[1], values) for values in itertools.product(
+                            *[self.values(name, part) for name, part in zip(entry[2], sizes)])]
+        for part in range(many):
+            found += [("->", given, result) for given in self.kept("inputs", part)
+                      for result in self.kept("terms", many - 1 - part)]
+        return found
+
+    def unions(self, many):
+        pool = [(part, at) for part in range(many - 1) for at in range(len(self.kept("singles", part)))]
+        for length in range(2, many):
+            for chosen in itertools.combinations(pool, length):
+                if sum(part for part, _ in chosen) == many - 1:
+                    yield "|", tuple(self.kept("singles", part)[at] for part, at in chosen)
+
+    def rows(self, many):
+        for items in self.sequences(many):
+            yield "[]", items
+
+    def inputs(self, many):
+        for items in self.sequences(many):
+            yield "()", items, None
+        for items in self.sequences(many - 1):
+            yield "()", items, "..."
+
+    def sequences(self, many):
+        if many == 0:
+            yield ()
+        for part in range(1, many + 1):
+            items = self.kept("terms", part) + [("...", term) for term in self.kept("terms", part - 1)]
+            for item in items:
+                for rest in self.sequences(many - part):
+                    yield (item,) + rest
+
+
+def parts_them(table, one, other, row):
+    """Whether a row of closed values parts two aliases."""
+    bodies = []
+    suits = []
+    for alias in (table[one], table[other]):
+        bounds = [table[name][3] for name in alias[2]]
+        suits.append([bound is None or is_within(table, value, bound) for value, bound in zip(row, bounds)])
+        bodies.append(canonical(put(expanded(table, alias[3]), dict(zip(alias[2], row)))))
+    return suits[0] != suits[1] or all(suits[0]) and bodies[0] != bodies[1]
+
+
+def least_parting_size(table, one, other, largest):
+    """The size of a least row that parts two aliases, None if none does up to the largest size."""
+    closed = Closed(table)
+    kinds = [{"plain": "terms", "variadic": "rows", "signature": "inputs"}[table[name][2]] for name in table[one][2]]
+    for total in range(largest + 1):
+        for sizes in itertools.product(range(total + 1), repeat=len(kinds)):
+            if sum(sizes) == total:
+                for row in itertools.product(*[closed.kept(kind, many) for kind, many in zip(kinds, sizes)]):
+                    if parts_them(table, one, other, row):
+                        return total
+    return None
+
+
+def entry_table(table, name):
+    """The table of an entry."""
+    entry = table[name]
+    if entry[0] == "parameter":
+        return entry[2], entry[3]
+    names = tuple((inner, table[inner][2], table[inner][3]) for inner in entry[2])
+    if entry[0] == "alias":
+        return names, expanded(table, entry[3])
+    return names, () if entry[3] is None else (entry[3], *climb(table, entry[3]))
+
+
+def touched(before, after):
+    found = {name for name in [*before, *after]
+             if name not in before or name not in after or entry_table(before, name) != entry_table(after, name)}
+    return sorted(found)

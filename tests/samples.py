@@ -195,3 +195,33 @@ class Maker:
         if found and found[0] == "|":
             return ("|", tuple(self.random.sample(found[1], len(found[1]))))
         return found
+
+
+def parameter(name, kind="plain", bound=None):
+    return ("parameter", name, kind, bound)
+
+
+def made_class(name, *parameters, base=None):
+    return ("class", name, parameters, base)
+
+
+def alias(name, parameters, body):
+    return ("alias", name, tuple(parameters), body)
+
+
+def table_of(entries):
+    return {entry[1]: entry for entry in entries}
+
+
+def uses_of(entries):
+    """The kinds of the parameters of each class and alias, as Maker takes them."""
+    table = table_of(entries)
+    return {entry[1]: [table[name][2] for name in entry[2]] for entry in entries if entry[0] != "parameter"}
+
+
+def told_by(function, *arguments, **named):
+    """What a call returns, or the name and the fields of the error that it raises."""
+    try:
+        return "returned", function(*arguments, **named)
+    except Exception as error:
+        return type(error).__name__, *vars(error).values()

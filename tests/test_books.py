@@ -6,6 +6,7 @@ import unittest
 from aliasparams.books import Book
 from aliasparams.climbing import bases_of
 from aliasparams.errors import NoBook, NoName, TooLarge
+from aliasparams.parts import laid_out
 from aliasparams.replacing import replaced
 from aliasparams.sizes import unjoined_size
 from aliasparams.terms import is_term, size
@@ -250,11 +251,11 @@ class Sizes(Checks):
             term = maker.term(4)
             if reference.is_term(term) and reference.misfit(table, term) is None:
                 flat = reference.expanded(table, term, reference.unjoined)
-                self.assertEqual(unjoined_size(facts.weights, term, {}), len(reference.nodes(flat)))
+                self.assertEqual(unjoined_size(facts.weights, laid_out(term), {}), len(reference.nodes(flat)))
                 mapping = mappings[at % len(mappings)]
                 flat = reference.put(term, mapping, reference.unjoined)
                 sizes = {name: size(mapping[name]) for name in mapping}
-                self.assertEqual(unjoined_size({}, term, sizes), len(reference.nodes(flat)))
+                self.assertEqual(unjoined_size({}, laid_out(term), sizes), len(reference.nodes(flat)))
                 self.assertEqual(replaced(term, mapping), reference.put(term, mapping))
                 self.assertIs(is_term(replaced(term, mapping)), True)
 

@@ -12,12 +12,12 @@ FILES = sorted(path for path in FOLDER.rglob("*") if path.suffix != ".pyc" and p
 BUILTINS = set("""len range enumerate zip min max sum abs sorted reversed int str bool list tuple dict set
     isinstance ord repr any all divmod Exception ValueError TypeError KeyError IndexError LookupError
     ZeroDivisionError ArithmeticError OverflowError RuntimeError NotImplementedError NotImplemented
-    map iter next type""".split())
+    map iter next type property classmethod""".split())
 
 METHODS = set("""append clear copy count endswith extend find get index insert isalnum isalpha isdigit islower
     isspace isupper items join keys ljust lower lstrip partition pop remove replace reverse rfind rjust
     rpartition rsplit rstrip setdefault split splitlines startswith strip update upper values zfill
-    bit_length title capitalize swapcase casefold removeprefix removesuffix rindex""".split())
+    bit_length title capitalize swapcase casefold removeprefix removesuffix rindex isascii""".split())
 
 WORDS = """register mro elements open input law version_info with_traceback add_note attrgetter breakpoint
     builtins compile copyright credits delattr dir eval exec exit gc globals help id importlib license locals
@@ -164,9 +164,13 @@ class Code(unittest.TestCase):
                 # An own error may be caught; nothing else is here.
                 self.assertIsInstance(node, ast.Try, (path, node.lineno))
                 for handler in node.handlers:
-                    self.assertNotIn(handler.type.id, dir(builtins), (path, node.lineno))
+                    for kind in getattr(handler.type, "elts", [handler.type]):
+                        self.assertNotIn(kind.id, dir(builtins), (path, node.lineno))
+            methods = [inner for node in nodes_of(path, ast.ClassDef) for inner in node.body]
             for node in nodes_of(path, ast.ClassDef, ast.FunctionDef):
-                self.assertFalse(node.decorator_list, (path, node.lineno))
+                decorators = [inner.id for inner in node.decorator_list]
+                is_method = node.lineno in [method.lineno for method in methods]
+                self.assertIn(decorators, [[], ["property"], ["classmethod"]] if is_method else [[]], (path, node.lineno))
                 if isinstance(node, ast.FunctionDef) and node.name.startswith("__"):
                     self.assertIn(node.name, DUNDERS)
 
