@@ -2,11 +2,9 @@
 
 from aliasparams.closed import ClosedLists, values_of_size
 from aliasparams.errors import NoName, OtherShape, TooLarge
-from aliasparams.pairs import Pair, are_of_one_shape, check_alias, full_size_of_body
+from aliasparams.pairs import LARGEST_BODY, Pair, are_of_one_shape, check_alias, is_small
 from aliasparams.searching import least_row
 from aliasparams.suiting import is_parameter
-
-LARGEST_BODY = 30
 
 
 def closed_values(book, name):
@@ -28,7 +26,7 @@ def parting(book, one, other):
     """
     if not have_same_shape(book, one, other):
         raise OtherShape(one, other)
-    if max([full_size_of_body(book.facts, name) for name in (one, other)]) > LARGEST_BODY:
+    if not is_small(book.facts, one) or not is_small(book.facts, other):
         raise TooLarge(LARGEST_BODY)
     return least_row(Pair(book.facts, one, other))
 

@@ -5,6 +5,7 @@ none is left out. A list of one size is made from those of the smaller sizes.
 """
 
 from aliasparams.forms import LIMIT
+from aliasparams.heads import is_class_within
 
 
 class ClosedLists:
@@ -94,7 +95,9 @@ class ClosedLists:
 def bounded_terms(facts, bounds):
     """The list of the closed terms within all of some bounds, each behind its
     size, in the order of the sizes."""
-    names = [name for name in sorted(list(facts.lines)) if _is_within_all(facts.lines[name], bounds)]
+    names = sorted(list(facts.lines))
+    for bound in bounds:
+        names = [name for name in names if is_class_within(facts, name, bound)]
     groups = [()]
     for name in names:
         groups = groups + [(*group, (name, ())) for group in groups]
@@ -157,11 +160,6 @@ def inputs_of_size(lists, size):
     if size > 0:
         for row in lists.rows[size - 1]:
             yield ("()", row[1], "...")
-
-
-def _is_within_all(line, bounds):
-    """Whether a class, by itself or by one above it, is within each bound."""
-    return all([any([name in bound for name in line]) for bound in bounds])
 
 
 def _splits(total, many):

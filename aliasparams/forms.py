@@ -73,7 +73,7 @@ def _inside(form, part):
     if form == "*":
         return () if is_name(part[1]) else None, ()
     items = part[1]
-    if not isinstance(items, tuple):
+    if not isinstance(items, tuple) or len(items) > LIMIT:
         return None, ()
     if form == "|":
         return items if len(items) > 1 else None, [_MEMBERS] * len(items)

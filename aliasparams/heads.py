@@ -31,15 +31,20 @@ def keeps_bound(facts, term, bound):
     return all([_is_head_within(facts, head, bound) for head in heads_of(facts, term)])
 
 
-def _is_head_within(facts, head, bound):
+def classes_of_head(facts, head):
+    """The core classes that a head stands for: itself, or those of the bound of a
+    parameter; None if the head keeps no bound."""
     if head in facts.lines:
-        return _is_class_within(facts, head, bound)
+        return (head,)
     entry = facts.by_name.get(head)
-    if entry is None or entry[0] != "parameter" or entry[3] is None:
-        return False
-    return all([_is_class_within(facts, name, bound) for name in entry[3]])
+    return entry[3] if entry is not None and entry[0] == "parameter" else None
 
 
-def _is_class_within(facts, name, bound):
+def _is_head_within(facts, head, bound):
+    classes = classes_of_head(facts, head)
+    return classes is not None and all([is_class_within(facts, name, bound) for name in classes])
+
+
+def is_class_within(facts, name, bound):
     """Whether a core class is in a bound or has a class of it above it."""
     return any([above in bound for above in facts.lines[name]])

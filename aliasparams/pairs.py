@@ -6,6 +6,8 @@ from aliasparams.names import is_name
 from aliasparams.noting import noted
 from aliasparams.parts import laid_out
 
+LARGEST_BODY = 30
+
 
 class Pair:
     """Two aliases of the same shape.
@@ -18,12 +20,12 @@ class Pair:
         self.facts = facts
         self.bodies = (facts.bodies[one], facts.bodies[other])
         # Of each place the entries of the two parameters.
-        self.entries = list(zip(facts.takes[one], facts.takes[other]))
+        self.places = list(zip(facts.takes[one], facts.takes[other]))
         self.numbers = {}
 
     def kinds(self):
         """The kind of the parameters at each place."""
-        return [entries[0][2] for entries in self.entries]
+        return [entries[0][2] for entries in self.places]
 
     def note(self, value):
         """The note of a value."""
@@ -45,14 +47,19 @@ class Pair:
     def common_terms(self, place):
         """The closed terms that keep both bounds at a place, each behind its size,
         in the order of the sizes; None if there is no bound."""
-        bounds = [entry[3] for entry in self.entries[place] if entry[3] is not None]
+        bounds = [entry[3] for entry in self.places[place] if entry[3] is not None]
         return bounded_terms(self.facts, bounds) if bounds else None
 
 
 def check_alias(facts, value):
     """Raises NoName if any value is not the name of an alias."""
-    if not is_name(value) or value not in facts.bodies:
+    if not is_alias(facts, value):
         raise NoName(value)
+
+
+def is_alias(facts, value):
+    """Whether any value is the name of an alias."""
+    return is_name(value) and value in facts.bodies
 
 
 def are_of_one_shape(facts, one, other):
@@ -61,10 +68,10 @@ def are_of_one_shape(facts, one, other):
     return kinds[0] == kinds[1]
 
 
-def full_size_of_body(facts, name):
-    """The full size of the body of an alias."""
+def is_small(facts, name):
+    """Whether the full size of the body of an alias is at most thirty."""
     own, times = facts.weights[name]
-    return own + sum(times)
+    return own + sum(times) <= LARGEST_BODY
 
 
 def _stand_in(mark, kind):

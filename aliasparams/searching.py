@@ -22,7 +22,7 @@ def least_row(pair):
 
 def _row_by_bounds(pair, lists):
     """A least row with a value that suits only one of two parameters, or None."""
-    found = [(_term_between(pair, lists, place), place) for place in range(len(pair.entries))]
+    found = [(_term_between(pair, lists, place), place) for place in range(len(pair.places))]
     found = [(size(term), place, term) for term, place in found if term is not None]
     if not found:
         return None
@@ -34,7 +34,7 @@ def _row_by_bounds(pair, lists):
 
 def _term_between(pair, lists, place):
     """A least closed term that suits only one of the parameters at a place, or None."""
-    bounds = [entry[3] for entry in pair.entries[place]]
+    bounds = [entry[3] for entry in pair.places[place]]
     if bounds[0] == bounds[1]:
         return None
     # Where the bounds differ, a core class or a signature of two nodes tells.
@@ -74,7 +74,7 @@ def bounded_rows(pair):
     """The list of the rows of values for the places with a bound, which suit both
     parameters there; None stands at the other places."""
     rows = [()]
-    for place in range(len(pair.entries)):
+    for place in range(len(pair.places)):
         terms = pair.common_terms(place)
         values = [None] if terms is None else [term for _, term in terms]
         rows = [(*row, value) for row in rows for value in values]
@@ -119,7 +119,7 @@ class Start:
     def first_value(self, place, notes, many):
         """The first value of a size with which the bodies differ, or None."""
         self.lists.reach(many - 1)
-        entry = self.pair.entries[place][0]
+        entry = self.pair.places[place][0]
         lists = self.lists
         for value in values_of_size(lists, entry, many):
             if self.pair.differs_with(self.with_value(notes, place, value)):
@@ -130,7 +130,7 @@ class Start:
         """The list of the values of a size with which the bodies may differ."""
         if (place, many) not in self.promising:
             self.lists.reach(many)
-            values = self.lists.values_for(self.pair.entries[place][0], many)
+            values = self.lists.values_for(self.pair.places[place][0], many)
             self.promising[place, many] = [
                 value for value in values if self.pair.differs_with(self.with_value(self.notes, place, value))]
         return self.promising[place, many]

@@ -733,3 +733,156 @@ def touched(before, after):
     found = {name for name in [*before, *after]
              if name not in before or name not in after or entry_table(before, name) != entry_table(after, name)}
     return sorted(found)
+
+
+def full_size_of_body(table, name):
+    return full_size(table, table[name][3])
+
+
+def kinds_of(table, name):
+    return [table[inner][2] for inner in table[name][2]]
+
+
+def is_claim(table, value):
+    if not is_tuple(value, 3) or not isinstance(value[0], str):
+        return False
+    if value[0] in ("within", "outside"):
+        return is_term(value[1]) and misfit(table, value[1]) is None and is_bound(table, value[2])
+    if value[0] not in ("parted", "alike"):
+        return False
+    if not all(is_name(name) and table.get(name, "?")[0] == "alias" for name in value[1:]):
+        return False
+    return (kinds_of(table, value[1]) == kinds_of(table, value[2])
+            and all(full_size_of_body(table, name) <= 30 for name in value[1:]))
+
+
+def is_chain(table, start, chain):
+    """Whether any value is a tuple of names, each one the base of the one before."""
+    if not isinstance(chain, tuple) or not chain or chain[0] != start:
+        return False
+    return all(table[one][3] == (other, ()) for one, other in zip(chain, chain[1:]))
+
+
+def is_paper_within(table, term, bound, paper):
+    if not isinstance(paper, tuple) or not all(is_tuple(part, 2) for part in paper):
+        return False
+    if [part[0] for part in paper] != sorted(set(heads(table, term))):
+        return False
+    for head, chains in paper:
+        starts = starts_of(table, head)
+        if starts is None or not is_tuple(chains, len(starts)):
+            return False
+        if not all(is_chain(table, start, chain) and chain[-1] in bound for start, chain in zip(starts, chains)):
+            return False
+    return True
+
+
+def starts_of(table, head):
+    """The core classes at which the chains of a head begin, None if it has none."""
+    if head == "->" or table[head][0] == "class" and not is_core(table, head):
+        return None
+    return (head,) if table[head][0] == "class" else table[head][3]
+
+
+def is_paper_outside(table, term, bound, paper):
+    if not is_tuple(paper, 2) or paper[0] not in heads(table, term):
+        return False
+    starts = starts_of(table, paper[0])
+    if starts is None:
+        return paper[1] == ()
+    return any(is_chain(table, start, paper[1]) and table[paper[1][-1]][3] is None
+               and not set(paper[1]) & set(bound) for start in starts)
+
+
+def is_closed(table, value, kind):
+    form = {"plain": is_any_term, "variadic": is_row, "signature": is_inputs}[kind]
+    if not form(value) or len(nodes(value)) > 150 or has_misfit(table, value):
+        return False
+    for part in nodes(value):
+        name = part if isinstance(part, str) else part[1] if part[0] == "*" else part[0]
+        if table.get(name, "?")[0] in ("parameter", "alias"):
+            return False
+    return True
+
+
+def is_paper_parted(table, one, other, paper):
+    kinds = kinds_of(table, one)
+    return (is_tuple(paper, len(kinds)) and all(is_closed(table, value, kind) for value, kind in zip(paper, kinds))
+            and parts_them(table, one, other, paper))
+
+
+def is_paper_alike(table, one, other, paper):
+    kinds = kinds_of(table, one)
+    closed = Closed(table)
+    if "plain" in kinds and not closed.kept("terms", 1):
+        return paper == ()
+    if not is_tuple(paper, len(kinds)):
+        return False
+    names = list(zip(table[one][2], table[other][2]))
+    if not all(is_test(table, pair, kind, test) for pair, kind, test in zip(names, kinds, paper)):
+        return False
+    bodies = [expanded(table, table[name][3]) for name in (one, other)]
+    fresh = [(place, single(test[1])) for place, test in enumerate(paper) if test[0] == "fresh"]
+    for place, term in fresh:
+        for another, inside in fresh:
+            if another != place and stands_in(term, inside):
+                return False
+    alls = [place for place, test in enumerate(paper) if test[0] == "all"]
+    for choice in itertools.product(*[paper[place][1] for place in alls]):
+        found = []
+        for alias, body in zip((one, other), bodies):
+            body = put(body, {table[alias][2][place]: value for place, value in zip(alls, choice)})
+            if any(stands_in(term, body) for _, term in fresh):
+                return False
+            found.append(put(body, {table[alias][2][place]: paper[place][1] for place, _ in fresh}))
+        if canonical(found[0]) != canonical(found[1]):
+            return False
+    return True
+
+
+def single(value):
+    return value if value[0] not in ("[]", "()") else value[1][0]
+
+
+def stands_in(term, part):
+    return canonical(term) in [canonical(inner) for inner in nodes(part) if not isinstance(inner, str)]
+
+
+def is_test(table, names, kind, test):
+    if not is_tuple(test, 2):
+        return False
+    bounds = [table[name][3] for name in names]
+    if (bounds[0] is None) != (bounds[1] is None):
+        return False
+    if bounds[0] is not None:
+        for one, other in [bounds, bounds[::-1]]:
+            if not all(is_head_within(table, name, other) for name in one):
+                return False
+    suits = lambda value: is_closed(table, value, kind) and all(
+        bound is None or is_within(table, value, bound) for bound in bounds)
+    if test[0] == "fresh":
+        value = test[1]
+        if not suits(value):
+            return False
+        if kind != "plain":
+            if len(value[1]) != 1 or value[2:] not in ((), (None,)):
+                return False
+        return is_any_term(single(value)) and not is_union(single(value))
+    if test[0] != "all" or bounds[0] is None or not isinstance(test[1], tuple):
+        return False
+    if not all(suits(value) for value in test[1]):
+        return False
+    names = sorted(name for name in core(table) if is_head_within(table, name, bounds[0]))
+    groups = [group for many in range(len(names)) for group in itertools.combinations(names, many + 1)]
+    return sorted(canonical_text(value) for value in test[1]) == sorted("|".join(group) for group in groups)
+
+
+def canonical_text(value):
+    """A text that two closed values of core classes share exactly if they are equal."""
+    members = value[1] if value[0] == "|" else (value,)
+    return "|".join(sorted(member[0] for member in members))
+
+
+def is_paper(table, claim, paper):
+    kinds = {"within": is_paper_within, "outside": is_paper_outside, "parted": is_paper_parted, "alike": is_paper_alike}
+    return kinds[claim[0]](table, *claim[1:], paper)

@@ -88,9 +88,20 @@ class Files(unittest.TestCase):
                 self.assertIsInstance(
                     node, (ast.Expr, ast.ImportFrom, ast.FunctionDef, ast.ClassDef, ast.Assign), path)
                 if isinstance(node, ast.Assign):
-                    ast.literal_eval(node.value)
+                    self.check_plain(path, node)
                 if isinstance(node, ast.Expr):
                     self.assertIsInstance(node.value, ast.Constant)
+
+    def check_plain(self, path, node):
+        """A plain value, or a table of functions that are defined above it."""
+        names = [inner.id for inner in ast.walk(node.value) if isinstance(inner, ast.Name)]
+        if not names:
+            ast.literal_eval(node.value)
+            return
+        self.assertIsInstance(node.value, ast.Dict, path)
+        above = [inner.name for inner in tree_of(path).body if isinstance(inner, ast.FunctionDef) and inner.lineno < node.lineno]
+        self.assertEqual([inner.id for inner in node.value.values], names, path)
+        self.assertLessEqual(set(names), set(above), path)
 
 
 class Imports(unittest.TestCase):
