@@ -7,14 +7,14 @@ from aliasparams.misfits import check_term
 
 def heads(book, term):
     """The ascending list of the heads of a term. Raises NoTerm."""
-    check_term(book.facts, term)
-    return heads_of(book.facts, term)
+    layout = check_term(book.facts, term)
+    return heads_of(book.facts, layout)
 
 
 def is_within(book, term, bound):
     """Whether a term is within a bound. Raises NoTerm."""
-    check_term(book.facts, term)
-    return keeps_bound(book.facts, term, bound)
+    layout = check_term(book.facts, term)
+    return keeps_bound(book.facts, layout, bound)
 
 
 def climb(book, term):

@@ -19,7 +19,7 @@ def holds(book, claim, paper):
 
 
 def _shows_within(facts, term, bound, paper):
-    heads = heads_of(facts, term)
+    heads = heads_of(facts, laid_out(term))
     if not isinstance(paper, tuple) or len(paper) != len(heads):
         return False
     return all([_shows_head_within(facts, head, bound, part) for head, part in zip(heads, paper)])
@@ -41,7 +41,7 @@ def _is_chain(facts, name, value):
 
 
 def _shows_outside(facts, term, bound, paper):
-    if not _is_pair(paper) or paper[0] not in heads_of(facts, term):
+    if not _is_pair(paper) or paper[0] not in heads_of(facts, laid_out(term)):
         return False
     head, chain = paper
     classes = classes_of_head(facts, head)
@@ -73,7 +73,7 @@ def _is_closed_value(facts, value, kind):
 
 def _suiting(facts, value, entries):
     """Whether a closed value keeps the bound of each of two parameters."""
-    return [entry[3] is None or keeps_bound(facts, value, entry[3]) for entry in entries]
+    return [entry[3] is None or keeps_bound(facts, laid_out(value), entry[3]) for entry in entries]
 
 
 def _shows_alike(facts, one, other, paper):

@@ -12,8 +12,11 @@ class Facts:
     def __init__(self):
         # Of each name its entry.
         self.by_name = {}
-        # Of each class and alias the entries of its parameters.
+        # Of each class and alias the entries of its parameters, and their kinds.
         self.takes = {}
+        self.taken_kinds = {}
+        # Of each class and alias with a bound for a parameter: True.
+        self.bounded = {}
         # Of each core class the names from it up to a class without a base.
         self.lines = {}
         # Of each alias the heads of its body, its own parameters among them.
@@ -30,6 +33,9 @@ class Facts:
         if kind == "parameter":
             return
         self.takes[name] = [self.by_name[inner] for inner in parameters]
+        self.taken_kinds[name] = [taken[2] for taken in self.takes[name]]
+        if any([taken[3] is not None for taken in self.takes[name]]):
+            self.bounded[name] = True
         if kind == "alias":
             self.note_body(name, parameters, last)
         else:
@@ -40,7 +46,7 @@ class Facts:
     def note_body(self, name, parameters, body):
         """Take in what follows from the body of an alias."""
         layout = laid_out(body)
-        self.body_heads[name] = heads_of(self, body)
+        self.body_heads[name] = heads_of(self, layout)
         self.bodies[name] = (parameters, laid_out(expanded_note(self, {}, layout)[0]))
         self.weights[name] = weight_of(self.weights, parameters, layout)
 

@@ -20,30 +20,39 @@ _LENGTHS = {"->": 3, "|": 2, "[]": 2, "()": 3, "*": 2, "**": 2, "...": 2}
 def layout_of(value, forms):
     """The layout of any value that is a part of one of these forms, with at most
     150 nodes; None for any other value."""
-    parts = [value]
+    parts = []
     starts = [1]
-    allowed = [forms]
+    # Tuples of parts that wait, each with the forms that these may have.
+    groups = [((value,), forms)]
+    names = {}
+    at = 0
+    end = 1
     nodes = 0
-    has_union = False
-    while len(starts) <= len(parts):
-        part = parts[len(starts) - 1]
-        form = _form_of(part)
-        if form not in allowed[len(starts) - 1]:
-            return None
-        if form == "use":
-            inner = part[1]
-            inside = [VALUES] * len(inner)
-        else:
-            inner, inside = _inside(form, part)
-            has_union = has_union or form == "|"
-        nodes += 1 if is_node(part) else 0
+    while at < len(groups):
+        inner, allowed = groups[at]
+        at += 1
+        for part in inner:
+            form = _form_of(part, names)
+            if form not in allowed:
+                return None
+            parts.append(part)
+            if form == "use":
+                nodes += 1
+                if part[1]:
+                    groups.append((part[1], VALUES))
+                    end += len(part[1])
+            else:
+                inside = _inside(form, part)
+                if inside is None:
+                    return None
+                nodes += 1 if is_node(part) else 0
+                groups.extend(inside)
+                end += sum([len(group) for group, _ in inside])
+            starts.append(end)
         # A value in which parts are shared may be far larger than it looks.
-        if inner is None or nodes > LIMIT:
+        if nodes > LIMIT:
             return None
-        parts.extend(inner)
-        allowed.extend(inside)
-        starts.append(len(parts))
-    return None if has_union and has_equal_members((parts, starts)) else (parts, starts)
+    return None if has_equal_members((parts, starts)) else (parts, starts)
 
 
 def has_form(value, forms):
@@ -51,37 +60,39 @@ def has_form(value, forms):
     return layout_of(value, forms) is not None
 
 
-def _form_of(part):
+def _form_of(part, names):
     """The form that the first item, the length and the second item of any value
-    tell, or None."""
+    tell, or None. Of the names it is noted that they are names."""
     if not isinstance(part, tuple) or len(part) < 2 or not isinstance(part[0], str):
         return None
-    if part[0] in _LENGTHS:
-        return part[0] if len(part) == _LENGTHS[part[0]] else None
-    return "use" if len(part) == 2 and isinstance(part[1], tuple) and is_name(part[0]) else None
+    head = part[0]
+    if head in _LENGTHS:
+        return head if len(part) == _LENGTHS[head] else None
+    if len(part) != 2 or not isinstance(part[1], tuple):
+        return None
+    if head not in names:
+        names[head] = is_name(head)
+    return "use" if names[head] else None
 
 
 def _inside(form, part):
-    """The parts directly in a part that is no use, None if it has no such form,
-    and of each one the forms that it may have."""
+    """The parts directly in a part that is no use, as they wait; None if it has no
+    such form."""
     if form == "->":
-        return part[1:], (_INPUTS, TERMS)
+        return [(part[1:2], _INPUTS), (part[2:], TERMS)]
     if form == "...":
-        return part[1:], (TERMS,)
+        return [(part[1:], TERMS)]
     if form == "**":
-        return (), ()
+        return []
     if form == "*":
-        return () if is_name(part[1]) else None, ()
+        return [] if is_name(part[1]) else None
     items = part[1]
     if not isinstance(items, tuple) or len(items) > LIMIT:
-        return None, ()
+        return None
     if form == "|":
-        return items if len(items) > 1 else None, [_MEMBERS] * len(items)
-    if form == "()" and part[2] is not None:
-        return _with_tail(items, part[2]), [*[_ITEMS] * len(items), _TAILS]
-    return items, [_ITEMS] * len(items)
-
-
-def _with_tail(items, tail):
-    """The items and the tail of inputs, None if any value is no tail."""
-    return (*items, ("**", tail)) if tail == "..." or is_name(tail) else None
+        return [(items, _MEMBERS)] if len(items) > 1 else None
+    if form == "[]" or part[2] is None:
+        return [(items, _ITEMS)]
+    if part[2] != "..." and not is_name(part[2]):
+        return None
+    return [(items, _ITEMS), ((("**", part[2]),), _TAILS)]

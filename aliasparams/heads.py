@@ -1,34 +1,40 @@
 """The heads of terms, and whether they keep a bound."""
 
+from aliasparams.parts import folded
 
-def heads_of(facts, term):
-    """The ascending list of the heads of a fitting term.
+
+def heads_of(facts, layout):
+    """The ascending list of the heads of a fitting term that is laid out."""
+    return sorted(folded(layout, lambda part, inner: heads_from(facts, part, inner)))
+
+
+def heads_from(facts, part, inner):
+    """The tuple of the heads of a term, from those of the parts directly in it.
 
     Aliases are not expanded for this: the heads of a body are known, and of
     the values only those of the parameters among these heads matter.
     """
+    head = part[0]
+    if head == "|":
+        return tuple({name: True for names in inner for name in names})
+    if head not in facts.body_heads:
+        return (head,)
+    parameters = facts.by_name[head][2]
     found = {}
-    waiting = [term]
-    while waiting:
-        part = waiting.pop()
-        head = part[0]
-        if head == "|":
-            waiting.extend(part[1])
-        elif head in facts.body_heads:
-            names = facts.by_name[head][2]
-            for inner in facts.body_heads[head]:
-                if inner in names:
-                    waiting.append(part[1][names.index(inner)])
-                else:
-                    found[inner] = True
-        else:
-            found[head] = True
-    return sorted(list(found))
+    for name in facts.body_heads[head]:
+        for other in inner[parameters.index(name)] if name in parameters else (name,):
+            found[other] = True
+    return tuple(found)
 
 
-def keeps_bound(facts, term, bound):
-    """Whether a fitting term is within a bound."""
-    return all([_is_head_within(facts, head, bound) for head in heads_of(facts, term)])
+def keeps_bound(facts, layout, bound):
+    """Whether a fitting term that is laid out is within a bound."""
+    return are_within(facts, heads_of(facts, layout), bound)
+
+
+def are_within(facts, heads, bound):
+    """Whether all heads of a term keep a bound."""
+    return all([_is_head_within(facts, head, bound) for head in heads])
 
 
 def classes_of_head(facts, head):

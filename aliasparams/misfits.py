@@ -2,8 +2,8 @@
 
 from aliasparams.errors import NoTerm
 from aliasparams.forms import TERMS, layout_of
-from aliasparams.heads import keeps_bound
-from aliasparams.parts import all_parts, folded, is_node, name_in, parts_of
+from aliasparams.heads import are_within, heads_from
+from aliasparams.parts import all_parts, folded, is_node, name_in
 
 # What a value is for that begins so; every other value is for a plain parameter.
 _KINDS = {"[]": "variadic", "()": "signature"}
@@ -31,12 +31,10 @@ def misfit_of_term(facts, value):
 
 def first_misfit(facts, layout):
     """None, or the number and the misfit of the first node that has one, of a
-    term, a row, inputs or an item."""
-    parts = layout[0]
+    term, a row, inputs or an item that is laid out."""
     # Most values fit, and then no node needs a number.
-    if all([_own_misfit(facts, part) is None for part in parts]):
-        if all([_keeps_bounds(facts, part) for part in parts]):
-            return None
+    if _fits(facts, layout):
+        return None
     return folded(layout, lambda part, told: _checked(facts, part, told))[1]
 
 
@@ -55,44 +53,60 @@ def kind_of_value(value):
     return _KINDS.get(value[0], "plain")
 
 
-def _checked(facts, part, told):
-    """The number of nodes of a part and its first misfit, from those of its parts."""
-    many = sum([inner[0] for inner in told]) + (1 if is_node(part) else 0)
-    reason = _own_misfit(facts, part)
-    if reason is not None:
-        return many, (0, reason)
-    return many, _inner_misfit(facts, part, told)
+def _fits(facts, layout):
+    """Whether no part of a value that is laid out has a misfit."""
+    for part in layout[0]:
+        if _own_misfit(facts, part) is not None:
+            return False
+    if not any([part[0] in facts.bounded for part in layout[0]]):
+        return True
+    parts, starts = layout
+    heads = [()] * len(parts)
+    for at in reversed(range(len(parts))):
+        inner = heads[starts[at]:starts[at + 1]]
+        if _place_outside(facts, parts[at], inner) is not None:
+            return False
+        heads[at] = heads_from(facts, parts[at], inner)
+    return True
 
 
-def _inner_misfit(facts, part, told):
-    """The first misfit in the parts of a part that has none itself."""
-    at = 1 if is_node(part) else 0
-    entries = facts.takes.get(part[0])
-    for place, inner in enumerate(parts_of(part)):
-        many, found = told[place]
-        if found is not None:
-            return at + found[0], found[1]
-        if entries is not None and not _suits_bound(facts, inner, entries[place]):
-            return at, "bound"
-        at += many
+def _place_outside(facts, part, heads):
+    """The place of the first value of a part that is not within the bound of its
+    parameter, from the heads of the parts in it; or None."""
+    if part[0] in facts.bounded:
+        for place, entry in enumerate(facts.takes[part[0]]):
+            if entry[3] is not None and not are_within(facts, heads[place], entry[3]):
+                return place
     return None
 
 
-def _keeps_bounds(facts, part):
-    """Whether the values of a part keep the bounds of the parameters for them."""
-    entries = facts.takes.get(part[0], [])
-    return all([_suits_bound(facts, value, entry) for value, entry in zip(part[1], entries)])
-
-
-def _suits_bound(facts, value, entry):
-    return entry[3] is None or keeps_bound(facts, value, entry[3])
+def _checked(facts, part, told):
+    """The number of nodes of a part, its first misfit, and its heads if it has
+    none, from those of its parts."""
+    own = 1 if is_node(part) else 0
+    many = own + sum([inner[0] for inner in told])
+    reason = _own_misfit(facts, part)
+    if reason is not None:
+        return many, (0, reason), ()
+    outside = _place_outside(facts, part, [inner[2] for inner in told])
+    at = own
+    for place, (nodes, found, _) in enumerate(told):
+        if found is not None:
+            return many, (at + found[0], found[1]), ()
+        if place == outside:
+            return many, (at, "bound"), ()
+        at += nodes
+    return many, None, heads_from(facts, part, [inner[2] for inner in told])
 
 
 def _own_misfit(facts, part):
     """The first misfit of a node, apart from a bound, or None."""
     head = part[0]
-    if head in facts.takes:
-        return _misfit_of_values(part[1], facts.takes[head])
+    if head in facts.taken_kinds:
+        values, kinds = part[1], facts.taken_kinds[head]
+        if len(values) != len(kinds):
+            return "count"
+        return None if [_KINDS.get(value[0], "plain") for value in values] == kinds else "value"
     name = name_in(part)
     if name is None:
         return None
@@ -102,13 +116,3 @@ def _own_misfit(facts, part):
     if entry[0] != "parameter" or entry[2] != _NAMED.get(head, "plain"):
         return "kind"
     return "count" if head == name and part[1] else None
-
-
-def _misfit_of_values(values, entries):
-    """The first misfit of a use of a class or an alias, from its parameters."""
-    if len(values) != len(entries):
-        return "count"
-    for value, entry in zip(values, entries):
-        if kind_of_value(value) != entry[2]:
-            return "value"
-    return None

@@ -54,20 +54,26 @@ def _noted_part(numbers, part, inner, mapping):
     head = part[0]
     if head in mapping:
         return mapping[head]
-    if head == "|":
-        return joined_notes(numbers, inner)
-    if head in ("[]", "()"):
-        return _gathered(numbers, head, inner)
-    if head in ("*", "**"):
-        return _opened(numbers, part, mapping)
-    values = [note[0] for note in inner]
-    made = (head, *values) if head in ("->", "...") else (head, tuple(values))
+    if head in _MAKERS:
+        maker = _MAKERS[head]
+        return maker(numbers, part, inner, mapping)
     letters = (head, *[note[1] for note in inner])
     number = numbers.setdefault(letters, len(numbers))
-    return made, number, (number,)
+    return (head, tuple([note[0] for note in inner])), number, (number,)
 
 
-def _opened(numbers, part, mapping):
+def _of_parts(numbers, part, inner, mapping):
+    """The note of a signature, or of an item ("...", term)."""
+    letters = (part[0], *[note[1] for note in inner])
+    number = numbers.setdefault(letters, len(numbers))
+    return (part[0], *[note[0] for note in inner]), number, (number,)
+
+
+def _of_members(numbers, part, inner, mapping):
+    return joined_notes(numbers, inner)
+
+
+def _opened(numbers, part, inner, mapping):
     """The note of what takes the place of an item ("*", name) or of a tail."""
     head, name = part
     if name in mapping:
@@ -77,21 +83,27 @@ def _opened(numbers, part, mapping):
     return ("()", (), name), None, ()
 
 
-def _gathered(numbers, head, inner):
-    """The note of the row or the inputs with the items and the tail of some notes."""
+def _gathered(numbers, part, inner, mapping):
+    """The note of a row or of inputs, with the items and the tail of some notes."""
     items = []
     found = []
     tail = None
-    for part, number, those in inner:
+    for own, number, those in inner:
         if number is not None:
-            items.append(part)
+            items.append(own)
             found.append(number)
         else:
-            items.extend(part[1])
+            items.extend(own[1])
             found.extend(those)
-            tail = part[2] if part[0] == "()" else None
-    letters = (head, *found)
+            tail = own[2] if own[0] == "()" else None
+    letters = (part[0], *found)
     if tail is not None:
         letters = (*letters, numbers.setdefault(("**", tail), len(numbers)))
-    made = ("[]", tuple(items)) if head == "[]" else ("()", tuple(items), tail)
+    made = ("[]", tuple(items)) if part[0] == "[]" else ("()", tuple(items), tail)
     return made, numbers.setdefault(letters, len(numbers)), tuple(found)
+
+
+# Of each part that is no use, by its first item, what makes its note.
+_MAKERS = {
+    "|": _of_members, "[]": _gathered, "()": _gathered, "*": _opened, "**": _opened, "->": _of_parts, "...": _of_parts,
+}

@@ -24,10 +24,12 @@ def numbered(numbers, layout):
 def has_equal_members(layout):
     """Whether a union among the parts of a layout has two equal members."""
     parts, starts = layout
+    unions = [at for at, part in enumerate(parts) if part[0] == "|"]
+    if not unions:
+        return False
     found = numbered({}, layout)
-    for at, part in enumerate(parts):
-        if part[0] == "|":
-            members = found[starts[at]:starts[at + 1]]
-            if len(set(members)) < len(members):
-                return True
+    for at in unions:
+        members = found[starts[at]:starts[at + 1]]
+        if len(set(members)) < len(members):
+            return True
     return False

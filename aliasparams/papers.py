@@ -4,6 +4,7 @@ from aliasparams.claims import check_claim
 from aliasparams.closed import ClosedLists
 from aliasparams.heads import classes_of_head, heads_of
 from aliasparams.pairs import LARGEST_BODY, Pair
+from aliasparams.parts import laid_out
 from aliasparams.searching import least_row
 
 
@@ -17,7 +18,7 @@ def paper_of(book, claim):
 
 def _paper_within(facts, term, bound):
     found = []
-    for head in heads_of(facts, term):
+    for head in heads_of(facts, laid_out(term)):
         chains = [_chain_into(facts, name, bound) for name in classes_of_head(facts, head) or ()]
         if not chains or None in chains:
             return None
@@ -35,7 +36,7 @@ def _chain_into(facts, name, bound):
 
 
 def _paper_outside(facts, term, bound):
-    for head in heads_of(facts, term):
+    for head in heads_of(facts, laid_out(term)):
         classes = classes_of_head(facts, head)
         if classes is None:
             return (head, ())

@@ -48,6 +48,8 @@ def _closed_parts(facts, parts, pieces):
 def _part(facts, pieces):
     """What pieces without a comma between them stand for: a term, an item,
     inputs as a value, or a tail, written ("**", tail)."""
+    if _is_use(pieces):
+        return _use(facts, pieces)
     if pieces == ["..."]:
         return ("**", "...")
     if len(pieces) == 2 and pieces[0] in ("*", "**"):
@@ -82,25 +84,31 @@ def _union(facts, pieces):
 
 
 def _member(facts, pieces):
-    if len(pieces) == 1 and is_name(pieces[0]):
-        return (pieces[0], ())
-    if len(pieces) == 2 and is_name(pieces[0]) and _is_bracket(pieces[1], "["):
-        return (pieces[0], _values(facts, pieces[0], pieces[1][1]))
+    if _is_use(pieces):
+        return _use(facts, pieces)
     if len(pieces) == 1 and _is_bracket(pieces[0], "(") and len(pieces[0][1]) == 1:
         return pieces[0][1][0]
     return _WRONG
 
 
-def _values(facts, name, parts):
-    """The tuple of the values of a use, with the row that its book tells."""
-    entry = facts.by_name.get(name)
-    names = () if entry is None or entry[0] == "parameter" else entry[2]
-    kinds = [facts.by_name[inner][2] for inner in names]
+def _is_use(pieces):
+    """Whether pieces are a name, or a name and a bracket with values."""
+    if len(pieces) != 1 and (len(pieces) != 2 or not _is_bracket(pieces[1], "[")):
+        return False
+    return is_name(pieces[0])
+
+
+def _use(facts, pieces):
+    """The use that pieces stand for, with the row that its book tells."""
+    if len(pieces) == 1:
+        return (pieces[0], ())
+    name, parts = pieces[0], pieces[1][1]
+    kinds = facts.taken_kinds.get(name, [])
     if "variadic" not in kinds or len(parts) < len(kinds) - 1:
-        return tuple(parts)
+        return (name, tuple(parts))
     start = kinds.index("variadic")
     end = start + len(parts) - (len(kinds) - 1)
-    return (*parts[:start], ("[]", tuple(parts[start:end])), *parts[end:])
+    return (name, (*parts[:start], ("[]", tuple(parts[start:end])), *parts[end:]))
 
 
 def _inputs(parts):

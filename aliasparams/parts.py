@@ -12,17 +12,18 @@ Nothing here calls itself: a term may be nested deeper than Python allows
 calls to be.
 """
 
+# The first items of parts that do not hold all their parts in a tuple.
+_OTHERS = {"*": True, "**": True, "->": True, "...": True, "()": True}
+
 
 def parts_of(part):
     """The tuple of the parts directly in a part, in the order of the text."""
     head = part[0]
-    if head in ("*", "**"):
-        return ()
-    if head in ("->", "..."):
-        return part[1:]
-    if head == "()" and part[2] is not None:
-        return part[1] + (("**", part[2]),)
-    return part[1]
+    if head not in _OTHERS:
+        return part[1]
+    if head == "()":
+        return part[1] if part[2] is None else (*part[1], ("**", part[2]))
+    return () if head in ("*", "**") else part[1:]
 
 
 def all_parts(top):

@@ -3,6 +3,7 @@
 from aliasparams.closed import ClosedLists, values_of_size
 from aliasparams.forms import LIMIT
 from aliasparams.heads import keeps_bound
+from aliasparams.parts import laid_out
 from aliasparams.terms import size
 
 
@@ -40,7 +41,7 @@ def _term_between(pair, lists, place):
     # Where the bounds differ, a core class or a signature of two nodes tells.
     lists.reach(2)
     for term in lists.terms[1] + lists.terms[2]:
-        told = [bound is None or keeps_bound(pair.facts, term, bound) for bound in bounds]
+        told = [bound is None or keeps_bound(pair.facts, laid_out(term), bound) for bound in bounds]
         if told[0] != told[1]:
             return term
     return None

@@ -3,7 +3,7 @@
 from aliasparams.errors import TooLarge
 from aliasparams.heads import keeps_bound
 from aliasparams.misfits import parameters_of
-from aliasparams.parts import name_in, parts_of
+from aliasparams.parts import laid_out, name_in, parts_of
 from aliasparams.replacing import replaced
 from aliasparams.terms import equal
 
@@ -24,7 +24,7 @@ def solution_of(facts, term, result):
         return None
     for name, value in found.items():
         bound = facts.by_name[name][3]
-        if bound is not None and not keeps_bound(facts, value, bound):
+        if bound is not None and not keeps_bound(facts, laid_out(value), bound):
             return None
     return found if _has_result(term, found, result) else None
 

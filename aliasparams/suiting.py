@@ -43,7 +43,7 @@ def is_parameter(facts, value):
 def _check_fitting(facts, position, layout, entry):
     if first_misfit(facts, layout) is not None:
         raise NoArgument(position, "misfit")
-    if entry[3] is not None and not keeps_bound(facts, layout[0][0], entry[3]):
+    if entry[3] is not None and not keeps_bound(facts, layout, entry[3]):
         raise NoArgument(position, "bound")
 
 

@@ -1,25 +1,15 @@
 """The pieces that texts consist of."""
 
-# The signs that are longer than one character.
-_SIGNS = (", ", " | ", " -> ", "...", "**")
+# No text of a term has a line feed or a tab, so they can mark what is found.
+_SIGNS = (", ", " | ", " -> ", "...", "[", "]", "(", ")")
 
 
 def tokens_of(text):
-    """The list of the names, the signs and the other characters of a text."""
-    found = []
-    at = 0
-    while at < len(text):
-        token = _token_at(text, at)
-        found.append(token)
-        at += len(token)
-    return found
+    """The list of the names and the signs of the text of a term, an item or inputs.
 
-
-def _token_at(text, at):
+    Those of another text are no tokens of it: they make another text, or none.
+    """
     for sign in _SIGNS:
-        if text.startswith(sign, at):
-            return sign
-    end = at
-    while end < len(text) and "a" <= text[end] <= "z":
-        end += 1
-    return text[at:max(end, at + 1)]
+        text = text.replace(sign, f"\n{sign}\n")
+    text = text.replace("**", "\n\t\n").replace("*", "\n*\n").replace("\t", "**")
+    return [token for token in text.split("\n") if token]

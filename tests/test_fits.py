@@ -7,6 +7,7 @@ from aliasparams.books import Book
 from aliasparams.errors import NoTerm
 from aliasparams.fits import misfit, parameters
 from aliasparams.heads import heads_of
+from aliasparams.parts import laid_out
 from aliasparams.terms import is_term
 from tests import reference
 from tests.samples import (
@@ -187,7 +188,7 @@ class Heads(unittest.TestCase):
                 (union(use("box", I), use("box", L)), ["box"]), (use("both", union(S, T), arrow(inputs(), I)),
                                                                  ["->", "bool", "str", "t"]),
                 (use("same", union(use("w"), use("drop", T, I))), ["int", "w"]), (use("last", row(T), N), ["n", "str"])]:
-            self.assertEqual(heads_of(facts, term), expected, term)
+            self.assertEqual(heads_of(facts, laid_out(term)), expected, term)
 
 
 class Parameters(unittest.TestCase):
