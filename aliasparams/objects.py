@@ -2,7 +2,6 @@
 
 from aliasparams.errors import NoName, NoText
 from aliasparams.misfits import check_term, parameters_of
-from aliasparams.names import is_name
 from aliasparams.substitution import applied
 from aliasparams.terms import arguments, joined, key, origin
 from aliasparams.texts import read_argument, show
@@ -25,8 +24,6 @@ class Alias:
     def of(cls, book, name):
         """The use of a class or an alias with its own parameters as values, or of
         a plain parameter. Raises NoName."""
-        if name not in book:
-            raise NoName(name)
         entry = book.entry(name)
         if entry[0] != "parameter":
             return cls(book, (name, tuple([_as_value(parameter) for parameter in book.facts.takes[name]])))
@@ -78,7 +75,7 @@ class Alias:
         return bool(self._parameters)
 
     def __contains__(self, name):
-        return is_name(name) and name in self._parameters
+        return name in self._parameters
 
     def __str__(self):
         return f"{self._text}"

@@ -20,8 +20,6 @@ def is_solvable_term(facts, term):
 def solution_of(facts, term, result):
     """The solution of a solvable term for a term, None if there is none."""
     found = _bindings(facts, term, result)
-    if found is None:
-        return None
     for name, value in found.items():
         bound = facts.by_name[name][3]
         if bound is not None and not keeps_bound(facts, laid_out(value), bound):
@@ -30,7 +28,7 @@ def solution_of(facts, term, result):
 
 
 def _has_result(term, mapping, result):
-    """Whether a substitution has this result; what is in unions is told only by it."""
+    """Whether a substitution has this result."""
     try:
         return equal(replaced(term, mapping), result)
     except TooLarge:
@@ -60,54 +58,36 @@ def _open_places(part):
 
 def _bindings(facts, term, result):
     """The values of the parameters outside of unions, as the parts of a result at
-    their places tell them; None if one can be told to be no result."""
+    their places tell them.
+
+    Where term and result are not alike, they are so with no values: what is told
+    behind that place does not matter, as the whole is compared afterwards.
+    """
     found = {}
     waiting = [(term, result)]
     while waiting:
         part, given = waiting.pop()
-        if part[0] == "|":
-            continue
         if part[0] in ("[]", "()"):
-            pairs = _paired_items(part, given, found)
-        else:
-            pairs = _paired_parts(facts, part, given, found)
-        if pairs is None:
-            return None
-        waiting.extend(pairs)
+            waiting.extend(_paired_items(part, given, found))
+        elif part[0] in facts.by_name and facts.by_name[part[0]][0] == "parameter":
+            if given[0] not in ("*", "..."):
+                found.setdefault(part[0], given)
+        elif part[0] == given[0] and part[0] != "|":
+            waiting.extend(list(zip(parts_of(part), parts_of(given))))
     return found
 
 
-def _paired_parts(facts, part, given, found):
-    """The parts in a part, each with the one in the given part; a parameter is
-    put into what is found. None if the given part is no result of this part."""
-    entry = facts.by_name.get(part[0])
-    if entry is not None and entry[0] == "parameter":
-        if given[0] in ("*", "..."):
-            return None
-        found.setdefault(part[0], given)
-        return []
-    if part[0] != given[0]:
-        return None
-    return list(zip(parts_of(part), parts_of(given)))
-
-
 def _paired_items(part, given, found):
-    """The same for rows and for inputs."""
-    open_places = _open_places(part)
+    """The items of a row or of inputs, each with one of the given part; what takes
+    the place of an open one is put into what is found."""
     items = part[1]
-    more = len(given[1]) - len(items)
+    open_places = _open_places(part)
     if not open_places:
-        if more != 0 or part[2:] != given[2:]:
-            return None
         return list(zip(items, given[1]))
     at = open_places[0]
     if at == len(items):
-        if more < 0:
-            return None
         found.setdefault(part[2], ("()", given[1][at:], given[2]))
         return list(zip(items, given[1]))
-    if more < -1 or part[2:] != given[2:]:
-        return None
-    end = at + more + 1
+    end = max(at, at + 1 + len(given[1]) - len(items))
     found.setdefault(items[at][1], ("[]", given[1][at:end]))
     return list(zip(items[:at], given[1])) + list(zip(items[at + 1:], given[1][end:]))

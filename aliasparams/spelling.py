@@ -2,22 +2,17 @@
 
 
 def spelled(part, keys):
-    """The key of a part, from the keys of the parts directly in it.
-
-    It can be read from left to right in one way only, so two parts with the
-    same key are equal.
-    """
-    head = part[0]
-    if head in ("*", "**"):
-        return head + part[1]
-    inside = sorted(keys) if head == "|" else keys
-    return head + "[" + ",".join(inside) + "]"
+    """The key of a part, from the keys of the parts directly in it: the same
+    exactly for equal parts."""
+    return lettered(part, sorted(keys) if part[0] == "|" else keys)
 
 
 def lettered(part, texts):
     """The letters of a part, from those of the parts directly in it: the same
-    exactly for parts that are written alike."""
-    head = part[0]
-    if head in ("*", "**"):
-        return head + part[1]
-    return head + "[" + ",".join(texts) + "]"
+    exactly for parts that are written alike.
+
+    They can be read from left to right in one way only.
+    """
+    if part[0] in ("*", "**"):
+        return part[0] + part[1]
+    return part[0] + "[" + ",".join(texts) + "]"

@@ -8,7 +8,7 @@ from aliasparams.books import Book
 from aliasparams.kept import Kept
 from aliasparams.substitution import applied
 from tests.samples import (
-    ENTRIES, I, JUNK, L, T, alias, book, deep, made_class, many, parameter, row, star, told_by, union, use, wide, wrapped)
+    ENTRIES, I, JUNK, L, T, alias, book, deep, inputs, made_class, many, parameter, row, star, told_by, union, use, wide, wrapped)
 
 BOX, S, N, U = use("box", T), use("str"), use("n"), use("u")
 
@@ -42,10 +42,12 @@ class Results(Checks):
         self.assertEqual(self.state(kept), (2, 4, 4, [(BOX, (L,)), (T, (I,)), (I, ()), (BOX, (I,))]))
 
     def test_calls_that_are_the_same_to_the_letter(self):
-        kept = Kept(book())
+        kept = Kept(Book(ENTRIES + [parameter("us", "variadic"), parameter("q", "signature")]), most=50)
         calls = [(BOX, [union(I, L)]), (BOX, [union(L, I)]), (union(T, I), [L]), (union(I, T), [L]),
                  (use("tab", T, row(star("ts"))), [I, L]), (use("tab", I, row(star("ts"))), [I, L]), (use("tab", I, row(star("ts"))), [L, I]),
-                 (use("tab", T, row(star("ts"))), [I, many(L)])]
+                 (use("tab", T, row(star("ts"))), [I, many(L)]), (use("tab", T, row(star("ts"))), [I, star("ts")]),
+                 (use("tab", T, row(star("ts"))), [I, star("us")]), (use("tab", T, row(star("ts"))), [I, use("box", I)])]
+        calls += [(use("task", inputs(tail="p"), I), [inputs(tail=tail)]) for tail in [None, "...", "p", "q"]]
         for term, given in calls:
             self.asked(kept, term, given, False)
         for term, given in calls:

@@ -122,6 +122,13 @@ class Within(Checks):
         for names in ["ac", "cd", "acdd", "aacd", "adc", "cad", "", "a", "abcd"]:
             self.wrong(given, claim, tuple(parts.get(name, ("b", (("b", "a"),))) for name in names))
 
+    def test_heads_that_keep_no_bound(self):
+        given = Book(LINES)
+        for term, head in [(T, "t"), (arrow(inputs(), A), "->"), (use("x", A), "x"), (use("e"), "e"), (use("some", A), "x")]:
+            claim = ("within", term, ("a",))
+            self.wrong(given, claim, ((head, ()),), ((head, ((),)),), ((head, ((head,),)),), ((head, (("a",),)),), ((head, None),), ())
+            self.assertIsNone(paper_of(given, claim))
+
     def test_outside(self):
         given = Book(LINES)
         claim = ("outside", use("c"), ("d",))
@@ -170,7 +177,8 @@ class NoClaims(Checks):
                 self.assertEqual(told_by(holds, given, ("within", value, ("int",)), ()), ("NoClaim", ("within", value, ("int",))))
             else:
                 self.assertIsNone(reference.misfit(table_of(WIDE), value))
-        for value in [("within", I), ("within", I, ("int",), ()), ["within", I, ("int",)], ("Within", I, ("int",)), ("inside", I, ("int",)),
+        for value in [("inside", "same", "same"), ("within", "same", "same"), ("Alike", "same", "same"), ("alike", I, ("int",)),
+                      ("within", I), ("within", I, ("int",), ()), ["within", I, ("int",)], ("Within", I, ("int",)), ("inside", I, ("int",)),
                       ("within ", I, ("int",)), ("->", inputs(), I), ("alike", "same"), ("alike", "same", "same", "same"), ["alike", "same", "same"]]:
             self.no_claim(given, value)
 
@@ -297,7 +305,7 @@ class Alike(Checks):
         for given_values in itertools.permutations(values):
             self.right(given, self.CLAIM, (("all", given_values), fresh(use("x", A))))
         self.right(given, self.CLAIM, (("all", (A, union(B, A), B)), fresh(chain(2))))
-        for wrong in [(A, B), (A, union(A, B)), (), (A, B, union(A, B), A), (A, A, B), (A, B, union(A, B), union(B, A)), (A, B, union(A, B), chain(1)),
+        for wrong in [(A, union(A, B), union(B, A)), (union(A, B), union(B, A), B), (A, B, B), (A, B), (A, union(A, B)), (), (A, B, union(A, B), A), (A, A, B), (A, B, union(A, B), union(B, A)), (A, B, union(A, B), chain(1)),
                       (A, B, chain(1)), (A, B, T), (A, B, use("n")), [A, B, union(A, B)], A, None, wrapped(300), (A, B, union(A, A)), (A, B, ["|", (A, B)])]:
             self.wrong(given, self.CLAIM, (("all", wrong), fresh(use("x", A))))
         self.wrong(given, self.CLAIM, (fresh(A), fresh(use("x", A))), (("all", tuple(values)), ("all", tuple(values))), (("all", tuple(values)), fresh(A)),
@@ -325,7 +333,7 @@ class Alike(Checks):
                    (everything, fresh(A)))
 
     def test_bounds_that_are_not_alike(self):
-        for one, other in [("n", "m"), ("t", "n"), ("n", "t"), ("k", "m")]:
+        for one, other in [("n", "m"), ("m", "n"), ("t", "n"), ("n", "t"), ("k", "m"), ("m", "k")]:
             given = pair_of((one, "a"), (other, "a"))
             self.assertIsNone(paper_of(given, self.CLAIM))
             self.wrong(given, self.CLAIM, (fresh(B),), (("all", (B,)),), (("all", (A, B, union(A, B))),), (fresh(chain(2)),))

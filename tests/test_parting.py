@@ -107,6 +107,33 @@ class Bodies(Checks):
         # A union of members is no other value than they are.
         self.parted(("t", "u", f"t | u | {a}"), ("t", "u", f"u | {a}"), 3, entries)
 
+    def test_values_that_must_be_others_than_each_other(self):
+        entries = [made_class("a"), *PLAIN, made_class("y", "t", "u"), alias("s", ("t", "u", "v"), union(use("y", T, U), use("y", U, use("v")), use("v")))]
+        self.parted(("t", "u", "t | u"), ("t", "u", "t"), 3, entries)
+        self.parted(("t", "u", "t | u"), ("t", "u", "u"), 3, entries)
+        self.parted(("t", "u", "y[t, u] | y[u, t]"), ("t", "u", "y[t, u] | y[u, t] | y[t, t]"), 3, entries)
+        self.parted(("t", "u", "v", "y[t, v] | y[u, v] | y[v, v]"), ("t", "u", "v", "y[t, v] | y[u, v]"), 4, entries, listed=3)
+        self.parted(("t", "u", "v", "y[t, v | u] | y[t, u] | y[u | t, v]"), ("t", "u", "v", "y[t, v | u] | y[t, u] | y[u, v]"), 4, entries, listed=3)
+        self.parted(("t", "u", "y[t, u] | t | a"), ("t", "u", "y[t, u] | u | a"), 3, entries)
+        self.parted(("t", "u", "t | u | a | (() -> a)"), ("t", "u", "t | a | (() -> a)"), 4, entries, listed=3)
+        self.parted(("ts", "t", "(*ts) -> t"), ("ts", "t", "(*ts) -> (t | a)"), 2, entries)
+        self.parted(("ts", "t", "((*ts) -> t) | ((a) -> t) | (() -> t)"), ("ts", "t", "((a) -> t) | (() -> t)"), 3, entries)
+
+    def test_bounds_before_bodies(self):
+        entries = [made_class("a"), *PLAIN, parameter("n", "plain", ("a",))]
+        self.parted(("t", "u", "u | a | (() -> a)"), ("n", "u", "a | (() -> a)"), 3, entries)
+        self.parted(("n", "u", "u | a"), ("t", "u", "a"), 3, entries)
+
+    def test_several_bounded_values(self):
+        entries = [made_class("a"), made_class("b"), parameter("k", "plain", ("a", "b")), parameter("l", "plain", ("a", "b")), *PLAIN, made_class("w", "k", "t")]
+        self.parted(("k", "t", "w[k, t] | w[a, t]"), ("k", "t", "w[a, t]"), 2, entries)
+        self.parted(("k", "t", "w[k, t] | w[a, t] | w[b, t]"), ("k", "t", "w[a, t] | w[b, t]"), 4, entries)
+        self.parted(("k", "t", "w[k, t] | w[a, t] | w[b, a] | w[b, b]"), ("k", "t", "w[a, t] | w[b, a] | w[b, b]"), 3, entries)
+        self.parted(("t", "k", "w[k, t] | w[a, t] | w[b, t]"), ("t", "k", "w[a, t] | w[b, t]"), 4, entries)
+        self.parted(("t", "k", "u", "w[k, t | u]"), ("t", "k", "u", "w[k, t]"), 3, entries, listed=2)
+        self.parted(("k", "l", "k | l"), ("k", "l", "k"), 2, entries)
+        self.parted(("k", "l", "w[k, l] | w[a | b, l]"), ("k", "l", "w[k, l] | w[k | l, l] | w[a | b, l]"), None, entries)
+
     def test_both_must_be_others(self):
         entries = [made_class("a"), *PLAIN, made_class("y", "t", "u"), alias("s", ("t",), union(T, A))]
         self.parted(("t", "u", "y[s[t], s[u]] | y[s[t], a] | y[a, s[u]]"), ("t", "u", "y[s[t], a] | y[a, s[u]]"), 4, entries, listed=3)

@@ -107,6 +107,19 @@ class Changes(Checks):
         self.check(registry, ["two"], "undo")
         self.check(registry, ["left"], "set_body", "left", L)
 
+    def test_names_of_items_and_tails_are_a_change(self):
+        entries = [made_class("a"), parameter("ts", "variadic"), parameter("p", "signature"), parameter("q", "signature"), made_class("r", "ts"),
+                   alias("b", ("p", "q"), arrow(inputs(tail="p"), use("a"))), parameter("us", "variadic"),
+                   made_class("c", "p", "q", base=use("r", row(arrow(inputs(tail="p"), use("a")))))]
+        registry = Registry(Book(entries))
+        self.check(registry, ["b"], "set_body", "b", arrow(inputs(tail="q"), use("a")))
+        self.check(registry, ["b"], "set_body", "b", arrow(inputs(tail="..."), use("a")))
+        self.check(registry, ["b"], "set_body", "b", arrow(inputs(), use("a")))
+        self.check(registry, [], "set_body", "b", arrow(inputs(), use("a")))
+        self.check(registry, ["c"], "set_base", "c", use("r", row(arrow(inputs(tail="q"), use("a")))))
+        self.check(registry, ["c"], "set_base", "c", use("r", row(many(use("a")))))
+        self.check(registry, ["c"], "set_base", "c", use("r", row(use("a"))))
+
     def test_drop(self):
         registry = Registry(Book(FAR))
         for entry in reversed(FAR):
