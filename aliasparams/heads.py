@@ -5,7 +5,8 @@ from aliasparams.parts import folded
 
 def heads_of(facts, layout):
     """The ascending list of the heads of a fitting term that is laid out."""
-    return sorted(folded(layout, lambda part, inner: heads_from(facts, part, inner)))
+    found = folded(layout, lambda part, inner: heads_from(facts, part, inner))
+    return sorted(list(found))
 
 
 def heads_from(facts, part, inner):

@@ -63,4 +63,5 @@ def composed(book, first, second):
     """
     check_mapping(book.facts, first)
     check_mapping(book.facts, second)
-    return {**second, **{name: replaced(value, second) for name, value in first.items()}}
+    found = {name: replaced(value, second) for name, value in first.items()}
+    return {**second, **found}
